@@ -1,0 +1,1 @@
+"""Cords that cross, and rules of colours of which only a custom is known."""

@@ -1,0 +1,184 @@
+"""What several tests need: rows, wrong values, and how wrong values are tried."""
+
+from itertools import combinations, product
+
+from cordrules import errors
+
+VERY = "the very value that is passed"
+
+
+class Nothing:
+    """A value of a kind that no function knows."""
+
+
+NOTHING = Nothing()
+
+
+def crossings(cords):
+    """All crossings, ascending."""
+    return [(side, place) for side in ("left", "right") for place in range(cords - 1)]
+
+
+def rows_of(cords, many):
+    """All rows of so many crossings."""
+    return list(product(crossings(cords), repeat=many))
+
+
+def rows_to(cords, most):
+    """All rows of at most so many crossings."""
+    return [row for many in range(most + 1) for row in rows_of(cords, many)]
+
+
+def some_rows(cords, many, length, seed=1):
+    """Rows without a plan, always the same ones."""
+    found = []
+    for _ in range(many):
+        row = []
+        for _ in range(length):
+            seed = (seed * 1103515245 + 12345) % 2 ** 31
+            row.append(crossings(cords)[(seed >> 12) % (2 * (cords - 1))])
+        found.append(tuple(row))
+    return found
+
+
+def worked(things, row, change):
+    """The things behind a row, straight from the words of the document."""
+    things = list(things)
+    for side, place in row:
+        low, high = things[place], things[place + 1]
+        if side == "left":
+            things[place], things[place + 1] = change("left", low, high), low
+        else:
+            things[place], things[place + 1] = high, change("right", high, low)
+    return tuple(things)
+
+
+def table_change(rule):
+    """What a table makes of a colour that goes under."""
+    return lambda side, over, under: rule[1 if side == "left" else 2][over][under]
+
+
+def wrong_cords():
+    return [(value, errors.BadCords, VERY) for value in (
+        1, 6, 0, -2, 10 ** 30, None, True, False, "2", "", [2], (2,), (), {}, NOTHING)]
+
+
+def wrong_rows(cords):
+    """Wrong rows of so many cords."""
+    good = ("left", 0)
+    whole = [None, True, 0, "left", "", [], [good], {}, NOTHING, (good,) * 61, (None,) * 61]
+    wrong = [(value, errors.BadRow, None) for value in whole]
+    things = [None, True, 3, "left", "", good + (0,), ("left",), (), ["left", 0], ("up", 0), ("Left", 0), (0, "left"),
+              ("left", True), ("left", False), ("left", -1), ("left", cords - 1), ("left", None), ("left", "0"),
+              ("left", (0,)), ("left", [0]), (None, 0), (["left"], 0), (("left",), 0), (("left", 0), 0), (True, 0),
+              ("left", 10 ** 40), (b"left", 0), NOTHING]
+    wrong += [((thing,), errors.BadRow, 0) for thing in things]
+    wrong += [((good, good, thing), errors.BadRow, 2) for thing in things]
+    wrong += [((good,) * 59 + (None,), errors.BadRow, 59), ((good, None, "no"), errors.BadRow, 1)]
+    return wrong
+
+
+def wrong_customs(allowed=()):
+    """Wrong customs; of the six words those that are not allowed."""
+    words = [word for word in ("any", "back", "through", "began", "twice", "never") if allowed and word not in allowed]
+    return [(value, errors.BadCustom, VERY) for value in words + [
+        None, True, 0, 1, "", "Any", "any ", "other", b"any", ["any"], ("any",), {}, (), NOTHING]]
+
+
+def wrong_cord(cords):
+    return [(value, errors.BadNumber, VERY) for value in (
+        cords, -1, 10 ** 30, None, True, False, "0", "", [0], (0,), {}, NOTHING)]
+
+
+def wrong_numbers(low, high):
+    return [(value, errors.BadNumber, VERY) for value in (
+        low - 1, high + 1, -10 ** 30, 10 ** 30, None, True, False, "1", "", [1], (1,), {}, NOTHING)]
+
+
+def wrong_told_rules():
+    """What is no told rule, with the part that is wrong."""
+    square = ((0, 1), (1, 0))
+    whole = [None, True, 0, "table", "", [], {}, NOTHING, (), ("table",), ("table", square), ("table", square, square, 0),
+             ("acts",), ("acts", ((0,),), 1), ("turns",), ("turns", 3), ("turns", 3, (0,), 0), ("Table", square, square),
+             (None, square, square), (["table"], square, square), ["table", square, square], (True, square, square),
+             ("any", square, square), (("table",), square, square)]
+    wrong = [(value, errors.BadRule, None) for value in whole]
+    squares = [None, True, 2, "on", (), [], [(0, 1), (1, 0)], ((0, 1),), ((0, 1), (1,)), ((0, 1), (1, 2)),
+               ((0, 1), (1, -1)), ((0, 1), (1, True)), ((0, 1), (False, 1)), ((0, 1), [1, 0]), ((0, 1), None),
+               ((0, 1), (1, None)), ((0, 1), (1, "0")), ((0, 1), (1, (0,))), ((0,), (1,)), ((0,) * 201,) * 201, NOTHING]
+    wrong += [(("table", value, square), errors.BadRule, "on") for value in squares]
+    wrong += [(("table", value, None), errors.BadRule, "on") for value in squares]
+    wrong += [(("table", square, value), errors.BadRule, "off") for value in squares + [((0,),), ((0, 1, 2),) * 3]]
+    permutations = [None, True, 1, "", (), [], [(0, 1)], ((0, 1),) * 6, ((),), ((0, 1), (0,)), ((0, 1), (0, 1, 2)),
+                    ((0, 0),), ((0, 2),), ((-1, 0),), ((False, True),), ((0, True),), ([0, 1],), (None,), ((0, None),),
+                    ((0, "1"),), ((0, (1,)),), (tuple(range(4002)),), ((0, 1), None), NOTHING]
+    wrong += [(("acts", value), errors.BadRule, "permutations") for value in permutations]
+    moduli = [None, True, False, 0, -1, 10 ** 6 + 1, "3", (3,), [], NOTHING]
+    wrong += [(("turns", value, (0,)), errors.BadRule, "modulus") for value in moduli]
+    wrong += [(("turns", value, None), errors.BadRule, "modulus") for value in moduli]
+    weights = [None, True, 0, "", (), [], [0], (0,) * 6, (3,), (-1,), (True,), (0, False), (None,), ("0",), ((0,),),
+               (0, 10 ** 30), NOTHING]
+    wrong += [(("turns", 3, value), errors.BadRule, "weights") for value in weights]
+    return wrong
+
+
+def wrong_tables():
+    """What is no table."""
+    return [(("acts", ((0, 1),)), errors.BadRule, "table"), (("turns", 1, (0,)), errors.BadRule, "table")] + (
+        wrong_told_rules())
+
+
+def wrong_table_colours(places, many):
+    """Wrong colours by places for a table of many colours."""
+    whole = [None, True, 0, "", [], {}, NOTHING, (), (0,) * (places - 1), (0,) * (places + 1), [0] * places]
+    wrong = [(value, errors.BadColours, None) for value in whole]
+    for thing in (None, True, False, many, -1, "0", (0,), [0], (0, 0), 10 ** 30, NOTHING):
+        for number in range(places):
+            wrong.append(((0,) * number + (thing,) * (places - number), errors.BadColours, number))
+    return wrong
+
+
+def fields_of(error):
+    """The fields of an error, in their order."""
+    return list(vars(error).values())
+
+
+def try_refusals(test, function, *specs):
+    """Tries each wrong value of each argument, alone and beside wrong values behind it.
+
+    A spec is a name, a good value and a list of wrong ones: value, error, field.
+    """
+    names = [name for name, _, _ in specs]
+    good = {name: value for name, value, _ in specs}
+    answer = function(*[good[name] for name in names])
+    test.assertEqual(function(**good), answer)
+    test.assertEqual(function(**{name: good[name] for name in reversed(names)}), answer)
+    for name, _, wrong in specs:
+        for value, error, field in wrong:
+            try_one(test, function, {**good, name: value}, value, error, field)
+    for (name, _, wrong), (far_name, _, far_wrong) in combinations(specs, 2):
+        for value, error, field in wrong[:4] + wrong[-2:]:
+            for far_value, _, _ in far_wrong[:2] + far_wrong[-2:]:
+                try_one(test, function, {**good, name: value, far_name: far_value}, value, error, field)
+
+
+def try_one(test, function, arguments, value, error, field):
+    """Tries one call that must be refused."""
+    try:
+        function(**arguments)
+    except errors.CordError as caught:
+        test.assertIs(caught.__class__, error, (function.__name__, arguments))
+        if field is VERY:
+            test.assertIs(fields_of(caught)[0], value, (function.__name__, arguments))
+        else:
+            test.assertEqual(fields_of(caught), [field], (function.__name__, arguments))
+            test.assertIs(fields_of(caught)[0].__class__, field.__class__, (function.__name__, arguments))
+        return
+    test.fail("{} took {}".format(function.__name__, arguments))
+
+
+def try_great(test, most, function, *arguments):
+    """Tries a call that must raise TooGreat(most)."""
+    with test.assertRaises(errors.TooGreat) as caught:
+        function(*arguments)
+    test.assertEqual(caught.exception.most, most)
