@@ -115,7 +115,7 @@ def by_marks(cords):
     """
     def mark(_side, over, under):
         marks, cord = divmod(under, cords)
-        return (marks ^ (1 << over % cords)) * cords + cord
+        return (marks ^ (1 << (over % cords))) * cords + cord
 
     return table_by((1 << cords) * cords, mark), tuple(range(cords))
 

@@ -7,19 +7,20 @@ from cordrules.checks import (
 from cordrules.errors import BadColours, BadRule, TooGreat
 from cordrules.working import work_row, work_way
 
-SORTS = ("table", "acts", "turns")
+# How many things a told rule has, its word with them.
+THINGS = {"table": 3, "acts": 2, "turns": 3}
 MOST_TABLE_COLOURS = 200
 MOST_NUMBERS = 4001
-MOST_MODULUS = 10 ** 6
+MOST_MODULUS = 1000000
 MOST_LETTERS = 5
 MOST_LISTED = 2000
 
 
 def need_rule(rule):
     """The told rule itself."""
-    if not isinstance(rule, tuple) or not rule or not is_one_of(rule[0], SORTS):
+    if not isinstance(rule, tuple) or not rule or not is_one_of(rule[0], tuple(THINGS)):
         raise BadRule(None)
-    if len(rule) != 2 + (rule[0] != "acts"):
+    if len(rule) != THINGS[rule[0]]:
         raise BadRule(None)
     if rule[0] == "table":
         need_table_parts(rule[1], rule[2])

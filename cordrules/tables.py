@@ -2,7 +2,7 @@
 
 from itertools import permutations
 
-from cordrules.checks import has_each_once, is_below, is_tuple_of
+from cordrules.checks import is_below, is_tuple_of
 from cordrules.errors import BadColours, TooGreat
 from cordrules.rules import MOST_TABLE_COLOURS, inverse_of, need_table, new_colour, table_by, table_with
 

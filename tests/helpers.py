@@ -12,6 +12,10 @@ class Nothing:
 
 
 NOTHING = Nothing()
+# Behind 30 such pairs words and terms have millions of letters and parts.
+LONG = (("left", 0), ("right", 1)) * 30
+FAR_LONG = (("right", 1), ("left", 0)) * 30
+A, B = ("cord", 0), ("cord", 1)
 
 
 def crossings(cords):
@@ -58,6 +62,41 @@ def table_change(rule):
     return lambda side, over, under: rule[1 if side == "left" else 2][over][under]
 
 
+def small_terms(cords, levels):
+    """All terms that are at most so many levels deep."""
+    found = [("cord", cord) for cord in range(cords)]
+    cord_terms = list(found)
+    for _ in range(levels - 1):
+        found = cord_terms + [(word, a, c) for word in ("on", "off") for a, c in product(found, repeat=2)]
+    return found
+
+
+def deep(levels, inner=B):
+    """A term with so many levels."""
+    for _ in range(levels - 1):
+        inner = ("on", A, inner)
+    return inner
+
+
+def full(levels):
+    """A term with both sides of all levels full: 2 ** levels - 1 parts."""
+    term = A
+    for _ in range(levels - 1):
+        term = ("on", term, term)
+    return term
+
+
+def longest_terms():
+    """A term whose word has more than 2,000 letters, and one of its parts whose word hasn't."""
+    term = A
+    for level in range(1, 12):
+        term = ("on", term, (A, B)[level % 2])
+    return ("on", term, A), term
+
+
+TERMS = small_terms(2, 3) + [deep(61), full(10), deep(30, ("off", A, ("on", A, deep(30)))), full(7)]
+
+
 def wrong_cords():
     return [(value, errors.BadCords, VERY) for value in (
         1, 6, 0, -2, 10 ** 30, None, True, False, "2", "", [2], (2,), (), {}, NOTHING)]
@@ -98,9 +137,10 @@ def wrong_numbers(low, high):
 def wrong_told_rules():
     """What is no told rule, with the part that is wrong."""
     square = ((0, 1), (1, 0))
-    whole = [None, True, 0, "table", "", [], {}, NOTHING, (), ("table",), ("table", square), ("table", square, square, 0),
-             ("acts",), ("acts", ((0,),), 1), ("turns",), ("turns", 3), ("turns", 3, (0,), 0), ("Table", square, square),
-             (None, square, square), (["table"], square, square), ["table", square, square], (True, square, square),
+    whole = [None, True, 0, "table", "", [], {}, NOTHING, (), ("table",), ("table", square),
+             ("table", square, square, 0), ("acts",), ("acts", ((0,),), 1), ("turns",), ("turns", 3),
+             ("turns", 3, (0,), 0), ("Table", square, square), (None, square, square), (["table"], square, square),
+             ["table", square, square], (True, square, square),
              ("any", square, square), (("table",), square, square)]
     wrong = [(value, errors.BadRule, None) for value in whole]
     squares = [None, True, 2, "on", (), [], [(0, 1), (1, 0)], ((0, 1),), ((0, 1), (1,)), ((0, 1), (1, 2)),

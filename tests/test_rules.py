@@ -1,7 +1,7 @@
 """[12], [18], [23]: cordrules/rules.py."""
 
 import unittest
-from itertools import permutations, product
+from itertools import product
 
 from cordrules.errors import BadColours
 from cordrules.rules import (

@@ -1,0 +1,63 @@
+"""[3] and the interface: each name stands in its file, with its arguments, and all can be given by name."""
+
+import importlib
+import inspect
+import unittest
+
+INTERFACE = {
+    "rows": """order_of(cords, row) order_on_way(cords, row) way_of(cords, row, cord) back_row(cords, row)
+        mirrored(cords, row) turned_over(cords, row) beside(cords, row, far_cords, far_row)
+        moved(cords, row, far_cords, by) cuts_of(cords, row) pieces_of(cords, row)""",
+    "weaves": """met(cords, row) crossed(cords, row, cord, far_cord) heights_of(cords, row)
+        is_heights(cords, row, heights) flattened(cords, row) turned_at(cords, row, numbers)""",
+    "layers": """layers_of(cords, row) is_far_one(cords, row, other) far_least(cords, row) far_greatest(cords, row)
+        far_count(cords, row) far_rows(cords, row) far_steps(cords, row, other) far_chain(cords, row, other)
+        exchanged(cords, row, numbers) loose_count(cords, row)""",
+    "rules": """need_rule(rule) need_colours(cords, rule, colours) is_colour(rule, value) on_colour(rule, over, under)
+        off_colour(rule, over, under) run_colours(cords, row, rule, colours)
+        way_of_colours(cords, row, rule, colours) colours_of(rule) as_table(rule)""",
+    "breaches": """keeps(rule, custom) custom_of(rule) breach(rule) fails_at(rule, custom, number, colours)
+        common_custom(rule, far_rule)""",
+    "tables": """is_closed(rule, colours) closed_with(rule, colours) closed_lots(rule) table_within(rule, colours)
+        renamed_table(rule, colours) renamings_between(rule, far_rule) least_table(rule)
+        pair_table(rule, far_rule)""",
+    "partings": "goes_well(rule, lots) least_parting(rule, pairs) all_partings(rule) table_of_lots(rule, lots)",
+    "filled": "all_tables(many, custom) table_count(many, custom) matched_table(many, custom, deeds)",
+    "terms": """need_term(cords, term) parts_of(cords, term) cord_of(cords, term) is_least(cords, term)
+        least_term(cords, term) term_behind(cords, side, term, far_term, custom)
+        colour_of_term(cords, rule, colours, term)""",
+    "words": """need_letters(cords, letters) least_word(cords, letters) letters_back(cords, letters)
+        word_joined(cords, letters, far_letters) sign_sums(cords, letters) word_of_term(cords, term)
+        colour_of_letters(cords, rule, colours, letters, cord)""",
+    "likeness": """customs() need_forms(cords, custom, forms) beginning_forms(cords, custom)
+        forms_of(cords, row, custom) forms_on(cords, custom, forms, row) are_alike(cords, row, other, custom)
+        weakest_custom(cords, row, other) stronger_forms(cords, custom, forms, far_custom)
+        pair_number(cords, row, cord, far_cord) pair_numbers(cords, row)""",
+    "parting": """check_parting(cords, row, other, custom, paper) part_rows(cords, row, other, custom)
+        rule_for(cords, many_rows, custom) told_apart(cords, many_rows, rule, colours)"""}
+
+
+def listed(text):
+    """Pairs of a name and the names of its arguments."""
+    for part in " ".join(text.split()).split(")"):
+        if part:
+            name, arguments = part.split("(")
+            yield name.strip(), [word for word in arguments.split(", ") if word]
+
+
+class TestInterface(unittest.TestCase):
+    def test_names_and_arguments(self):
+        for word, text in INTERFACE.items():
+            module = importlib.import_module("cordrules." + word)
+            for name, arguments in listed(text):
+                function = getattr(module, name)
+                self.assertEqual(function.__module__, "cordrules." + word)
+                parameters = inspect.signature(function).parameters.values()
+                self.assertEqual([one.name for one in parameters], arguments, name)
+                for one in parameters:
+                    self.assertEqual(one.kind, one.POSITIONAL_OR_KEYWORD)
+                    self.assertIs(one.default, one.empty)
+
+
+if __name__ == "__main__":
+    unittest.main()
