@@ -37,8 +37,9 @@ def are_below(value, many):
     """Whether a value is a tuple of integers from 0 to many - 1."""
     if not isinstance(value, tuple):
         return False
+    # Written out, for a table has up to 80,000 colours to look at.
     for item in value:
-        if not is_below(item, many):
+        if not isinstance(item, int) or isinstance(item, bool) or not 0 <= item < many:
             return False
     return True
 

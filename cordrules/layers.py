@@ -118,8 +118,11 @@ def far_rows(cords, row):
     # Each row that is begun can be ended, so there are never more than in the end.
     for _ in row:
         further = []
+        steps = {}
         for done, numbers in begun:
-            for _, number, next_done in free_steps(row, standing, done):
+            if done not in steps:
+                steps[done] = free_steps(row, standing, done)
+            for _, number, next_done in steps[done]:
                 further.append((next_done, numbers + [number]))
         begun = further
     return tuple([row_of_numbers(row, numbers) for _, numbers in begun])

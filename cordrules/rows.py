@@ -1,6 +1,6 @@
 """Orders, ways, back rows, mirrored rows, rows beside one another, cuts and pieces."""
 
-from cordrules.checks import MOST_CORDS, is_within, need_cord, need_cords, need_cords_and_row, need_number, need_row
+from cordrules.checks import MOST_CORDS, is_within, need_cord, need_cords_and_row, need_number, need_row
 from cordrules.errors import BadCords
 from cordrules.working import keep_under, order_behind, other_side, work_way
 
@@ -60,7 +60,6 @@ def moved(cords, row, far_cords, by):
 
 def need_far_cords(far_cords, low, high):
     """The cords themselves, if there are from low to high of them."""
-    need_cords(far_cords)
     if not is_within(far_cords, low, high):
         raise BadCords(far_cords)
     return far_cords

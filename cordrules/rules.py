@@ -186,7 +186,7 @@ def has_more_colours(rule, most):
         many = many * factor
         if many > most:
             return True
-    return many > most
+    return False
 
 
 def listed_colours(rule):

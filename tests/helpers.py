@@ -149,7 +149,8 @@ def wrong_told_rules():
     wrong += [(("table", value, square), errors.BadRule, "on") for value in squares]
     wrong += [(("table", value, None), errors.BadRule, "on") for value in squares]
     wrong += [(("table", square, value), errors.BadRule, "off") for value in squares + [((0,),), ((0, 1, 2),) * 3]]
-    permutations = [None, True, 1, "", (), [], [(0, 1)], ((0, 1),) * 6, ((),), ((0, 1), (0,)), ((0, 1), (0, 1, 2)),
+    permutations = [None, True, 1, "", (), [], [(0, 1)], ((0, 1),) * 6, ((),), ((0, 1), (0,)),
+                    ((0, 1), (0, 1, 1)), ((0, 1), (0, 1, 2)),
                     ((0, 0),), ((0, 2),), ((-1, 0),), ((False, True),), ((0, True),), ([0, 1],), (None,), ((0, None),),
                     ((0, "1"),), ((0, (1,)),), (tuple(range(4002)),), ((0, 1), None), NOTHING]
     wrong += [(("acts", value), errors.BadRule, "permutations") for value in permutations]

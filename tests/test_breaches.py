@@ -106,6 +106,13 @@ class TestBreaches(unittest.TestCase):
         self.assertEqual(breach(("acts", ((1, 0, 3, 2), (0, 1, 2, 3)))), ("never", 0, None))
         self.assertEqual(breach(("acts", ((1, 0, 3, 2), (1, 2, 3, 0)))), ("began", 0, None))
         self.assertEqual(breach(("acts", ((1, 0),))), ("never", 0, None))
+        # With six numbers pairs that change places do not help.
+        six = ("acts", ((1, 0, 3, 2, 5, 4),))
+        self.assertEqual(breach(six), ("began", 0, None))
+        far = ((0, 2, 1, 4, 3, 5), 0)
+        first = tuple(range(6)), 0
+        self.assertTrue(fails_at(six, "began", 0, (first, far, first)))
+        self.assertFalse(fails_at(six, "through", 0, (first, far, first)))
 
     def test_keeps_and_custom_of(self):
         rules = some_tables() + TOLD + ACTS

@@ -79,7 +79,8 @@ class TestRules(unittest.TestCase):
             self.assertFalse(is_colour(TURNS, value))
         for value in odd + [0, (0, 0), ((0, 1), 0), ((0, 1, 2, 3), 0), ((0, 1, 1), 0), ((0, 1, 3), 0), ([0, 1, 2], 0),
                             ((0, 1, 2), 2), ((0, 1, 2), -1), ((0, 1, 2), True), ((False, 1, 2), 0), ((0, 1, "2"), 0),
-                            ((0, 1, None), 0), ((0, 1, 2),), [(0, 1, 2), 0], ((0, 1, (2,)), 0), (None, 0)]:
+                            ((0, 1, None), 0), ((0, 1, 2),), ((0, 1, 2, 0), 0), [(0, 1, 2), 0],
+                            ((0, 1, (2,)), 0), (None, 0)]:
             self.assertFalse(is_colour(ACTS, value))
         self.assertTrue(is_colour(ACTS, ((2, 0, 1), 1)))
         self.assertTrue(is_colour(TURNS, (5, 2)))
@@ -160,6 +161,11 @@ class TestAsTable(unittest.TestCase):
                     colours[on_colour(table, over, under)], on_colour(rule, colours[over], colours[under]))
                 self.assertEqual(
                     colours[off_colour(table, over, under)], off_colour(rule, colours[over], colours[under]))
+
+    def test_greatest_tables(self):
+        table = ("table", (tuple(range(200)),) * 200, (tuple(range(200))[::-1],) * 200)
+        self.assertIs(as_table(table), table)
+        self.assertEqual(colours_of(table), tuple(range(200)))
 
     def test_sizes(self):
         self.assertEqual(len(as_table(("turns", 40, (0, 1, 2, 3, 4)))[1]), 200)

@@ -127,7 +127,8 @@ class TestWrongOnes(unittest.TestCase):
             self, crossed, *both, ("cord", 0, wrong_cord(3)),
             ("far_cord", 2, [(0, BadNumber, VERY)] + wrong_cord(3)))
         heights = [(value, BadNumber, VERY) for value in (
-            None, True, 0, "", "012", [], [0, 1, 2], {}, NOTHING, (), (0, 1), (0, 1, 2, 3), (0, 1, 1), (0, 1, 3),
+            None, True, 0, "", "012", [], [0, 1, 2], {}, NOTHING, (), (0, 1), (0, 1, 2, 3), (0, 1, 2, 0),
+            (0, 1, 1), (0, 1, 3),
             (0, 1, -1), (False, True, 2), (0, True, 2), (0, 1, None), (0, 1, "2"), (0, 1, (2,)), (0, 1, [2]))]
         try_refusals(self, is_heights, *both, ("heights", (0, 2, 1), heights))
         numbers = [(value, BadNumber, VERY) for value in (
