@@ -19,9 +19,9 @@ def wrong_letter(cords, value):
     return None
 
 
-def is_word(cords, value):
+def is_word(cords, value, most=MOST_LETTERS):
     """Whether a value is a word that is not too long."""
-    if not isinstance(value, tuple) or len(value) > MOST_LETTERS or wrong_letter(cords, value) is not None:
+    if not isinstance(value, tuple) or len(value) > most or wrong_letter(cords, value) is not None:
         return False
     return least_letters(value) == value
 

@@ -2,7 +2,7 @@
 
 from cordrules.checks import MOST_CORDS, is_within, need_cord, need_cords_and_row, need_number, need_row
 from cordrules.errors import BadCords
-from cordrules.working import keep_under, order_behind, other_side, work_way
+from cordrules.working import back_of, keep_under, order_behind, other_side, work_way
 
 
 def order_of(cords, row):
@@ -27,7 +27,7 @@ def way_of(cords, row, cord):
 def back_row(cords, row):
     """The row by which the row is taken back."""
     need_cords_and_row(cords, row)
-    return tuple([(other_side(side), place) for side, place in row[::-1]])
+    return back_of(row)
 
 
 def mirrored(cords, row):

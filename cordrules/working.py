@@ -5,11 +5,21 @@ the thing that goes over and the thing that goes under.
 """
 
 
+def all_crossings(cords):
+    """All crossings, ascending."""
+    return tuple([(side, place) for side in ("left", "right") for place in range(cords - 1)])
+
+
 def other_side(side):
     """The other one of the two sides."""
     if side == "left":
         return "right"
     return "left"
+
+
+def back_of(row):
+    """The row by which a row is taken back."""
+    return tuple([(other_side(side), place) for side, place in row[::-1]])
 
 
 def keep_under(_side, _over, under):

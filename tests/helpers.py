@@ -5,6 +5,7 @@ from itertools import combinations, product
 from cordrules import errors
 
 VERY = "the very value that is passed"
+CUSTOMS = ("any", "back", "through", "began", "twice", "never")
 
 
 class Nothing:
@@ -177,6 +178,43 @@ def wrong_table_colours(places, many):
         for number in range(places):
             wrong.append(((0,) * number + (thing,) * (places - number), errors.BadColours, number))
     return wrong
+
+
+def beginning(cords, custom):
+    forms = {"any": lambda cord: ("cord", cord), "back": lambda cord: ("cord", cord), "never": lambda cord: cord,
+             "through": lambda cord: ((), cord)}
+    return tuple(forms.get(custom, lambda cord: ((0,) * cords, cord))(cord) for cord in range(cords))
+
+
+def wrong_forms(custom):
+    """Wrong forms of two cords."""
+    good = beginning(2, custom)
+    wrong = [(value, errors.BadForm, None) for value in (
+        None, True, 0, "", "cc", [], {}, NOTHING, (), good[:1], good + good[:1], list(good))]
+    things = [None, True, False, 2, -1, "", "c0", [], {}, NOTHING, (), 10 ** 30, ("cord",), ("cord", 2),
+              ("cord", True), ("cord", "0"), ("word", 0), (0, 1, 2), ((), 2), ((), True), ((), None), ([], 0),
+              (None, 0), ((0,), 0), ((0, 0, 0), 0), ((0, None), 0), ((0, True), 0), ((0, "0"), 0), ((0, (0,)), 0),
+              ([0, 0], 0), ((0, 0), 2), ((0, 0), False), (((0, 1),), 2), (((0, 0),), 0), (((2, 1),), 0),
+              (((0, 1), (0, -1)), 0), (((0, 1), (1, 1), (1, -1)), 0), (((0, True),), 0), (((0, 1, 1),), 0),
+              (((0, 1),) * 2001, 0), deep(62), full(11), ("on", A, None), ("on", None, A)]
+    if custom == "back":
+        things += [("on", A, ("off", A, A)), ("on", ("off", B, ("on", B, B)), A)]
+    if custom == "twice":
+        things += [((0, 2), 0), ((-1, 0), 0), ((10 ** 30, 0), 0)]
+    for thing in things + [one for other in CUSTOMS for one in beginning(2, other)]:
+        if beginning_kind(custom, thing):
+            continue
+        wrong.append(((thing, good[1]), errors.BadForm, 0))
+        wrong.append(((thing, None), errors.BadForm, 0))
+        wrong.append(((good[0], thing), errors.BadForm, 1))
+    return wrong + [((good[0], good[0]), errors.BadForm, 1), ((good[1], good[1]), errors.BadForm, 1)]
+
+
+def beginning_kind(custom, thing):
+    """Whether a thing is a form by the custom that stands among the wrong ones of other customs."""
+    kinds = {"any": ("any", "back"), "back": ("any", "back"), "began": ("began", "twice"), "twice": ("began", "twice"),
+             "through": ("through",), "never": ("never",)}
+    return any(thing in beginning(2, other) for other in kinds[custom]) and not isinstance(thing, bool)
 
 
 def fields_of(error):

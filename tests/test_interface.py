@@ -34,7 +34,23 @@ INTERFACE = {
         weakest_custom(cords, row, other) stronger_forms(cords, custom, forms, far_custom)
         pair_number(cords, row, cord, far_cord) pair_numbers(cords, row)""",
     "parting": """check_parting(cords, row, other, custom, paper) part_rows(cords, row, other, custom)
-        rule_for(cords, many_rows, custom) told_apart(cords, many_rows, rule, colours)"""}
+        rule_for(cords, many_rows, custom) told_apart(cords, many_rows, rule, colours)""",
+    "smallest": """first_parting(cords, row, other, rule) parting_count(cords, row, other, rule)
+        smallest_table(cords, row, other, custom) smallest_acts(cords, row, other)""",
+    "shown": """taken_back(cords, custom, forms, row) is_shown(cords, custom, forms) row_of_forms(cords, custom, forms)
+        shown_paper(cords, custom, forms) check_shown(cords, custom, forms, paper)""",
+    "peeled": """weights_of(cords, forms) next_peeled(cords, forms) peeled(cords, forms) peeled_row(cords, row)""",
+    "among": """deeds_of(cords, forms) next_states(cords, forms, state) how_many_rows(cords, forms)
+        row_among(cords, forms, number) number_among(cords, row)""",
+    "kinds": """kind_number(cords, row, custom) kind_row(cords, custom, number) kinds_total(cords, custom)
+        kinds_by_length(cords, custom, number)""",
+    "threes": """half_turns(row) need_halves(halves) row_of_halves(halves) fewest_of_halves(halves)
+        halves_joined(halves, far_halves) halves_back(halves)"""}
+# By modules the classes: what they are made of, their methods, their fields.
+CLASSES = {
+    "kinds": {"Kinds": (
+        "Kinds(cords, custom)", "number_of(row) row_of(number) next_of(number) many_shortest(number)",
+        {"cords": 3, "custom": "twice"})}}
 
 
 def listed(text):
@@ -45,18 +61,37 @@ def listed(text):
             yield name.strip(), [word for word in arguments.split(", ") if word]
 
 
+def plain_arguments(test, function, arguments):
+    """Whether a function takes just these arguments, by position or by name."""
+    parameters = inspect.signature(function).parameters.values()
+    test.assertEqual([one.name for one in parameters], arguments, function)
+    for one in parameters:
+        test.assertEqual(one.kind, one.POSITIONAL_OR_KEYWORD)
+        test.assertIs(one.default, one.empty)
+
+
 class TestInterface(unittest.TestCase):
+    def test_classes(self):
+        for word, classes in CLASSES.items():
+            module = importlib.import_module("cordrules." + word)
+            for name, (made, methods, fields) in classes.items():
+                cls = getattr(module, name)
+                self.assertEqual(cls.__module__, "cordrules." + word)
+                plain_arguments(self, cls, dict(listed(made))[name])
+                one = cls(**fields)
+                for method, arguments in listed(methods):
+                    self.assertIn(method, vars(cls))
+                    plain_arguments(self, getattr(one, method), arguments)
+                for field, value in fields.items():
+                    self.assertIs(getattr(one, field), value)
+
     def test_names_and_arguments(self):
         for word, text in INTERFACE.items():
             module = importlib.import_module("cordrules." + word)
             for name, arguments in listed(text):
                 function = getattr(module, name)
                 self.assertEqual(function.__module__, "cordrules." + word)
-                parameters = inspect.signature(function).parameters.values()
-                self.assertEqual([one.name for one in parameters], arguments, name)
-                for one in parameters:
-                    self.assertEqual(one.kind, one.POSITIONAL_OR_KEYWORD)
-                    self.assertIs(one.default, one.empty)
+                plain_arguments(self, function, arguments)
 
 
 if __name__ == "__main__":

@@ -16,7 +16,8 @@ BUILTINS = """len range enumerate zip min max sum abs sorted reversed int str bo
     repr any all divmod pow ValueError TypeError KeyError IndexError ZeroDivisionError""".split()
 METHODS = """append clear copy count endswith extend find get index insert isalnum isalpha isdigit islower isspace
     isupper items join keys ljust lower lstrip partition pop remove replace reverse rfind rjust rpartition rsplit
-    rstrip setdefault split splitlines startswith strip update upper values zfill bit_length add discard""".split()
+    rstrip setdefault split splitlines startswith strip update upper values zfill bit_length add discard
+    swapcase""".split()
 NOWHERE = """register mro elements open input law version_info with_traceback add_note type typing
     typing_extensions enum Enum IntEnum StrEnum Flag IntFlag Generic Protocol ABC ABCMeta namedtuple NamedTuple
     TypedDict TYPE_CHECKING abstractmethod""".split()

@@ -13,10 +13,9 @@ from cordrules.rows import order_of
 from cordrules.rules import run_colours
 from cordrules.words import least_word, letters_back
 from helpers import (
-    A, B, FAR_LONG, LONG, NOTHING, VERY, deep, full, longest_terms, rows_to, some_rows, try_great, try_refusals,
-    worked, wrong_cord, wrong_cords, wrong_customs, wrong_rows)
+    A, B, CUSTOMS, FAR_LONG, LONG, VERY, beginning, deep, full, longest_terms, rows_to, some_rows, try_great,
+    try_refusals, worked, wrong_cord, wrong_cords, wrong_customs, wrong_forms, wrong_rows)
 
-CUSTOMS = ("any", "back", "through", "began", "twice", "never")
 ROW = (("left", 0), ("right", 1), ("left", 1))
 
 
@@ -49,12 +48,6 @@ def form_behind(custom):
     if custom == "through":
         return by_words
     return (lambda side, over, under: under) if custom == "never" else by_counts
-
-
-def beginning(cords, custom):
-    forms = {"any": lambda cord: ("cord", cord), "back": lambda cord: ("cord", cord), "never": lambda cord: cord,
-             "through": lambda cord: ((), cord)}
-    return tuple(forms.get(custom, lambda cord: ((0,) * cords, cord))(cord) for cord in range(cords))
 
 
 class TestForms(unittest.TestCase):
@@ -266,46 +259,16 @@ class TestWrongOnes(unittest.TestCase):
                 pair_number(3, (), 2, value)
             self.assertIs(caught.exception.value, value)
 
-    def wrong_forms(self, custom):
-        """Wrong forms of two cords."""
-        good = beginning(2, custom)
-        wrong = [(value, BadForm, None) for value in (
-            None, True, 0, "", "cc", [], {}, NOTHING, (), good[:1], good + good[:1], list(good))]
-        things = [None, True, False, 2, -1, "", "c0", [], {}, NOTHING, (), 10 ** 30, ("cord",), ("cord", 2),
-                  ("cord", True), ("cord", "0"), ("word", 0), (0, 1, 2), ((), 2), ((), True), ((), None), ([], 0),
-                  (None, 0), ((0,), 0), ((0, 0, 0), 0), ((0, None), 0), ((0, True), 0), ((0, "0"), 0), ((0, (0,)), 0),
-                  ([0, 0], 0), ((0, 0), 2), ((0, 0), False), (((0, 1),), 2), (((0, 0),), 0), (((2, 1),), 0),
-                  (((0, 1), (0, -1)), 0), (((0, 1), (1, 1), (1, -1)), 0), (((0, True),), 0), (((0, 1, 1),), 0),
-                  (((0, 1),) * 2001, 0), deep(62), full(11), ("on", A, None), ("on", None, A)]
-        if custom == "back":
-            things += [("on", A, ("off", A, A)), ("on", ("off", B, ("on", B, B)), A)]
-        if custom == "twice":
-            things += [((0, 2), 0), ((-1, 0), 0), ((10 ** 30, 0), 0)]
-        for thing in things + [one for other in CUSTOMS for one in beginning(2, other)]:
-            if beginning_kind(custom, thing):
-                continue
-            wrong.append(((thing, good[1]), BadForm, 0))
-            wrong.append(((thing, None), BadForm, 0))
-            wrong.append(((good[0], thing), BadForm, 1))
-        return wrong + [((good[0], good[0]), BadForm, 1), ((good[1], good[1]), BadForm, 1)]
-
     def test_forms(self):
         for custom in CUSTOMS:
             cords = ("cords", 2, wrong_cords())
             told = ("custom", custom, wrong_customs())
-            forms = ("forms", beginning(2, custom)[::-1], self.wrong_forms(custom))
+            forms = ("forms", beginning(2, custom)[::-1], wrong_forms(custom))
             try_refusals(self, need_forms, cords, told, forms)
             try_refusals(self, forms_on, cords, told, forms, ("row", (("left", 0),), wrong_rows(2)))
             weaker = [(one, BadCustom, VERY) for one in CUSTOMS[:CUSTOMS.index(custom)]]
             try_refusals(
                 self, stronger_forms, cords, told, forms, ("far_custom", "never", weaker + wrong_customs()))
-
-
-def beginning_kind(custom, thing):
-    """Whether a thing is a form by the custom that stands among the wrong ones of other customs."""
-    kinds = {"any": ("any", "back"), "back": ("any", "back"), "began": ("began", "twice"), "twice": ("began", "twice"),
-             "through": ("through",), "never": ("never",)}
-    return any(thing in beginning(2, other) for other in kinds[custom]) and not isinstance(thing, bool)
 
 
 if __name__ == "__main__":
