@@ -64,6 +64,13 @@ def is_crossing(cords, value):
     return is_tuple_of(value, 2) and is_one_of(value[0], SIDES) and is_below(value[1], cords - 1)
 
 
+def is_row(cords, value):
+    """Whether a value is a row of so many cords."""
+    if not isinstance(value, tuple) or len(value) > MOST_CROSSINGS:
+        return False
+    return all([is_crossing(cords, crossing) for crossing in value])
+
+
 def need_cords(cords):
     """The number of cords itself."""
     if not is_within(cords, 2, MOST_CORDS):

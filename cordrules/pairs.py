@@ -101,3 +101,16 @@ def step_of(many):
 def side_of(many):
     """The side of such a crossing."""
     return "left" if many > 0 else "right"
+
+
+def forms_of_numbers(custom, order, numbers):
+    """The forms by "began", "twice" or "never" with this order and these pair numbers."""
+    if custom == "never":
+        return order
+    counts = [[0] * len(order) for _ in order]
+    for (cord, far_cord), number in numbers.items():
+        counts[far_cord][cord] = (number + 1) // 2
+        counts[cord][far_cord] = number // 2
+    if custom == "twice":
+        counts = [[count % 2 for count in line] for line in counts]
+    return tuple([(tuple(counts[cord]), cord) for cord in order])

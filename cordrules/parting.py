@@ -24,13 +24,26 @@ def check_parting(cords, row, other, custom, paper):
 
 def wrong_word(cords, row, other, custom, paper):
     """The word for what is wrong with a paper, None if nothing is."""
+    word = wrong_rule_word(custom, paper)
+    if word is None:
+        word = wrong_end_word(cords, row, other, paper)
+    return word
+
+
+def wrong_rule_word(custom, paper):
+    """The word for what is wrong with the form of a paper or with its rule, None if nothing is."""
     if not is_tuple_of(paper, 3):
         return "form"
-    rule, colours, place = paper
-    if not is_told_rule(rule):
+    if not is_told_rule(paper[0]):
         return "rule"
-    if not does_keep(rule, custom):
+    if not does_keep(paper[0], custom):
         return "custom"
+    return None
+
+
+def wrong_end_word(cords, row, other, paper):
+    """The word for what is wrong with the colours and the place of a paper, None if nothing is."""
+    rule, colours, place = paper
     if not are_colours(cords, rule, colours):
         return "colours"
     if not is_below(place, cords):

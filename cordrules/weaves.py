@@ -4,7 +4,7 @@ from itertools import permutations
 
 from cordrules.checks import has_each_once, is_ascending, need_cord, need_cords_and_row
 from cordrules.errors import BadNumber
-from cordrules.working import meetings, other_side
+from cordrules.working import meetings, turned_crossings
 
 
 def met(cords, row):
@@ -74,9 +74,4 @@ def turned_at(cords, row, numbers):
     need_cords_and_row(cords, row)
     if not is_ascending(numbers, len(row)):
         raise BadNumber(numbers)
-    turned = []
-    for number, (side, place) in enumerate(row):
-        if number in numbers:
-            side = other_side(side)
-        turned.append((side, place))
-    return tuple(turned)
+    return turned_crossings(row, numbers)

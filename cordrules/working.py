@@ -22,6 +22,16 @@ def back_of(row):
     return tuple([(other_side(side), place) for side, place in row[::-1]])
 
 
+def turned_crossings(row, numbers):
+    """The row with the other side at the crossings with these numbers."""
+    turned = []
+    for number, (side, place) in enumerate(row):
+        if number in numbers:
+            side = other_side(side)
+        turned.append((side, place))
+    return tuple(turned)
+
+
 def keep_under(_side, _over, under):
     """The change by which nothing changes; so cords are worked."""
     return under

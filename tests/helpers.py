@@ -261,3 +261,19 @@ def try_great(test, most, function, *arguments):
     with test.assertRaises(errors.TooGreat) as caught:
         function(*arguments)
     test.assertEqual(caught.exception.most, most)
+
+
+def wrong_books():
+    """What is no book."""
+    good = (3, (("left", 0),), (("right", 1),) * 3)
+    whole = [None, True, 0, "", "abc", [], [good], {}, NOTHING, (good,) * 13, (None,) * 13]
+    wrong = [(value, errors.BadBook, None) for value in whole]
+    things = [None, True, 3, "abc", "", (), good[:2], good + ((),), list(good), {}, NOTHING]
+    for part in (None, True, False, 1, 6, -1, 10 ** 30, "3", "", (3,), [3], NOTHING):
+        things.append((part,) + good[1:])
+    for part, _, _ in wrong_rows(3):
+        things += [(3, part, ()), (3, (), part)]
+    things += [(2, (("left", 1),), ()), (2, (), (("left", 1),)), (True, (), ())]
+    wrong += [((thing,), errors.BadBook, 0) for thing in things]
+    wrong += [((good, good, thing, None), errors.BadBook, 2) for thing in things]
+    return wrong + [((good,) * 11 + (None,), errors.BadBook, 11)]

@@ -45,7 +45,22 @@ INTERFACE = {
     "kinds": """kind_number(cords, row, custom) kind_row(cords, custom, number) kinds_total(cords, custom)
         kinds_by_length(cords, custom, number)""",
     "threes": """half_turns(row) need_halves(halves) row_of_halves(halves) fewest_of_halves(halves)
-        halves_joined(halves, far_halves) halves_back(halves)"""}
+        halves_joined(halves, far_halves) halves_back(halves)""",
+    "steps": """fewest(cords, row, custom) is_shortest(cords, row, custom) least_row(cords, row, custom)
+        how_far(cords, row, other, custom) row_between(cords, row, other, custom) farthest(cords, custom)""",
+    "again": """row_again(cords, row, many) period(cords, row, custom) times(cords, row, other, custom)
+        both_times(cords, row, other, custom) forms_after(cords, row, many, custom)""",
+    "past": """goes_past(cords, row, other, custom) first_not_past(cords, row, custom)
+        goes_past_all(cords, row, custom)""",
+    "changes": "fewest_changes(cords, row, other, custom) ways_of_changes(cords, row, other, custom)",
+    "books": """need_book(book) difference(cords, row, other) book_numbers(custom, book) says(custom, book, far_book)
+        unsaid(custom, book, far_book) spare_triples(custom, book) least_part(custom, book)""",
+    "follow": """book_form(cords, row, custom, book) does_follow(cords, row, other, custom, book)
+        book_kinds(cords, custom, book) book_period(cords, row, custom, book)
+        least_alike(cords, row, custom, book)""",
+    "plain": """rule_numbers(rule) does_rule_follow(rule, book) plain_rule(custom, book) plain_book(custom, book)
+        follow_paper(cords, row, other, custom, book) check_follow(cords, row, other, custom, book, paper)
+        turns_count(custom, book, modulus, many)"""}
 # By modules the classes: what they are made of, their methods, their fields.
 CLASSES = {
     "kinds": {"Kinds": (

@@ -207,7 +207,8 @@ class TestWrongOnes(unittest.TestCase):
     def test_functions(self):
         try_refusals(self, kinds_total, self.cords, self.custom)
         try_refusals(self, kind_number, self.cords, self.row, self.custom)
-        wrong = [(value, BadNumber, VERY) for value in (-1, None, True, False, "0", "", [0], (0,), {}, -10 ** 30, NOTHING)]
+        wrong = [(value, BadNumber, VERY) for value in (
+            -1, None, True, False, "0", "", [0], (0,), {}, -10 ** 30, NOTHING)]
         try_refusals(self, kind_row, self.cords, self.custom, ("number", 7, wrong))
         try_refusals(self, kinds_by_length, self.cords, self.custom, ("number", 3, wrong_numbers(0, 30)))
         for custom in CUSTOMS:

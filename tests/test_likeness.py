@@ -4,7 +4,7 @@ import unittest
 from itertools import combinations, product
 
 from cordrules.breaches import keeps
-from cordrules.errors import BadCustom, BadForm, BadNumber
+from cordrules.errors import BadCustom, BadNumber
 from cordrules.filled import all_tables
 from cordrules.likeness import (
     are_alike, beginning_forms, customs, forms_of, forms_on, need_forms, pair_number, pair_numbers, stronger_forms,
@@ -13,7 +13,7 @@ from cordrules.rows import order_of
 from cordrules.rules import run_colours
 from cordrules.words import least_word, letters_back
 from helpers import (
-    A, B, CUSTOMS, FAR_LONG, LONG, VERY, beginning, deep, full, longest_terms, rows_to, some_rows, try_great,
+    A, B, CUSTOMS, FAR_LONG, LONG, VERY, beginning, full, longest_terms, rows_to, some_rows, try_great,
     try_refusals, worked, wrong_cord, wrong_cords, wrong_customs, wrong_forms, wrong_rows)
 
 ROW = (("left", 0), ("right", 1), ("left", 1))

@@ -246,7 +246,8 @@ class TestSizes(unittest.TestCase):
             self.assertTrue(leads_to(5, "began", row, forms))
             self.assertLessEqual(len(row), 2000)
             more = 61 * sign
-            for forms in ((((0, more), 0), ((more, 0), 1)), (((0, more), 0), ((0, 0), 1)), (((more, 0), 0), ((0, 0), 1))):
+            both = (((0, more), 0), ((more, 0), 1))
+            for forms in (both, (((0, more), 0), ((0, 0), 1)), (((more, 0), 0), ((0, 0), 1))):
                 for function in (row_of_forms, shown_paper):
                     try_great(self, 60, function, 2, "began", forms)
                 self.assertIs(is_shown(2, "began", forms), forms[1][0][0] == more)
