@@ -7,13 +7,12 @@ from cordrules.errors import TooGreat
 from cordrules.forms import are_one_kind, forms_at_beginning, forms_behind
 from cordrules.laps import differences_of, done_often, lap_of, rounds_until_same, turn_of
 from cordrules.likeness import sums_of_pairs
-from cordrules.pairs import forms_of_numbers
+from cordrules.pairs import BY_PAIRS, forms_of_numbers
 from cordrules.working import order_behind
 
 MOST_TIMES = 1000000000
 MOST_DONE_AGAIN = 6000
 ALL_BUT_BACK = ("any", "through", "began", "twice", "never")
-BY_PAIRS = ("began", "twice", "never")
 
 
 def row_again(cords, row, many):

@@ -8,11 +8,11 @@ from cordrules.errors import TooGreat
 from cordrules.forms import are_one_kind
 from cordrules.letters import MOST_LETTERS
 from cordrules.likeness import sums_of_pairs
+from cordrules.pairs import BY_PAIRS
 from cordrules.spelled import spelled_along, spelled_beginning
 from cordrules.working import meetings, order_behind, turned_crossings
 
 MOST_GONE_THROUGH = 12
-BY_PAIRS = ("began", "twice", "never")
 
 
 def fewest_changes(cords, row, other, custom):

@@ -2,6 +2,9 @@
 
 from cordrules.working import keep_under, work_crossing
 
+# By these customs the order and the pair numbers tell all.
+BY_PAIRS = ("began", "twice", "never")
+
 
 def pairs_of(cords):
     """All pairs of a cord and a greater one, ascending."""

@@ -3,7 +3,7 @@
 from math import gcd, lcm
 
 from cordrules.books import are_multiples, need_book, need_custom_and_book, numbers_of_book
-from cordrules.breaches import does_keep, strongest_kept
+from cordrules.breaches import acts_breach, strongest_kept
 from cordrules.checks import CUSTOMS, need_cords_and_rows, need_number
 from cordrules.errors import BadCustom, BadPaper
 from cordrules.follow import are_following
@@ -30,11 +30,11 @@ def rule_numbers(rule):
 
 def numbers_of_rule(rule):
     """Likewise, where the rule is known to keep "began"."""
-    if does_keep(rule, "never"):
-        return 1, 1
     if rule[0] == "turns":
         return numbers_of_turns(rule[1], rule[2])
-    # A rule that acts on numbers and keeps "began" has at most four numbers, or changes nothing.
+    if rule[0] == "acts" and acts_breach(rule[1]) is None:
+        return 1, 1
+    # A rule that acts on numbers, keeps "began" and changes colours has at most four numbers.
     return numbers_of_table(as_table(rule))
 
 

@@ -135,6 +135,25 @@ class TestLanguage(unittest.TestCase):
                 if isinstance(node, ast.FunctionDef):
                     self.assertEqual(node.decorator_list, [], where)
 
+    def test_attributes_and_methods(self):
+        taken = {name for value in ("", b"", 0, [], (), {}, set()) for name in dir(value)}
+        free = "count index title find get join lower upper split strip copy add".split()
+        for path, _, tree in trees():
+            for node in tree.body:
+                if isinstance(node, ast.ClassDef):
+                    methods = {one.name for one in node.body if isinstance(one, ast.FunctionDef)}
+                    stored = {one.attr for one in ast.walk(node)
+                              if isinstance(one, ast.Attribute) and isinstance(one.ctx, ast.Store)}
+                    self.assertFalse(methods & stored, (path.name, node.name))
+                    self.assertFalse((stored - set(free)) & taken, (path.name, node.name))
+                    self.assertFalse({name for name in methods if name != "__init__"} & taken, (path.name, node.name))
+
+    def test_imports_are_used(self):
+        for path, _, tree in trees():
+            names = {alias.name for node in tree.body if isinstance(node, ast.ImportFrom) for alias in node.names}
+            used = {node.id for node in ast.walk(tree) if isinstance(node, ast.Name)}
+            self.assertLessEqual(names, used, path.name)
+
     def test_sets(self):
         for path, _, tree in trees():
             sets = [node for node in ast.walk(tree) if isinstance(node, (ast.Set, ast.SetComp)) or is_call(node, "set")]

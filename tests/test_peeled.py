@@ -38,6 +38,10 @@ def some_forms():
     for one, other in product(words, repeat=2):
         for order in permutations(range(2)):
             yield 2, ((one, order[0]), (other, order[1]))
+    # Nothing of these can be peeled: each cord is far from all others but one.
+    for sign in (1, -1):
+        yield 5, tuple((((4 - cord, sign), (cord, sign), ((cord + 1) % 5, -sign)), cord) for cord in range(5))
+        yield 5, tuple((tuple((far, sign) for far in range(5)), cord) for cord in (4, 2, 0, 3, 1))
     for row in some_rows(4, 6, 5):
         forms = forms_of(4, row, "through")
         yield 4, forms

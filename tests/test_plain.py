@@ -11,7 +11,7 @@ from cordrules.follow import does_follow
 from cordrules.plain import (
     check_follow, does_rule_follow, follow_paper, plain_book, plain_rule, rule_numbers, turns_count)
 from cordrules.plain_rows import book_with_numbers
-from cordrules.rules import as_table, colours_of, need_rule, off_colour, on_colour, run_colours
+from cordrules.rules import as_table, colours_of, need_rule, on_colour, run_colours
 from cordrules.tables import pair_table
 from helpers import (
     NOTHING, rows_to, some_rows, try_refusals, wrong_books, wrong_cords, wrong_customs, wrong_numbers, wrong_rows,

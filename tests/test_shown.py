@@ -272,24 +272,14 @@ class TestSizes(unittest.TestCase):
         self.assertEqual(refused(2, "through", stuck, ("rest", (a, ra) * 5001, stuck)), "rest")
 
     def test_words_of_six_thousand_letters(self):
-        # Behind so many crossings the longer word has 6,000 letters, as the way of two cords tells.
-        lengths = [0, 0]
-        many = 0
+        # On two cords two crossings put three letters to the longer word: behind 4,000 it has 6,000.
         here = beginning(2, "through")
-        most = None
-        for many in range(1, 1400):
-            try:
-                here = forms_on(2, "through", here, (a,))
-            except ValueError:
-                most = many
-                break
-            lengths = [len(word) for word, _ in here]
-        self.assertLessEqual(max(lengths), 2000)
-        self.assertIsNotNone(most)
-        # Three crossings for two more letters in each word: so 6,000 come behind about 4,000.
+        for many in range(1, 1001):
+            here = forms_on(2, "through", here, (a,))
+            self.assertEqual(max(len(word) for word, _ in here), many * 3 // 2)
         shown = beginning(2, "through")
-        self.assertIs(check_shown(2, "through", shown, ("row", (a,) * 3990 + (ra,) * 3990)), True)
-        self.assertEqual(refused(2, "through", shown, ("row", (a,) * 4010 + (ra,) * 4010)), "row")
+        self.assertIs(check_shown(2, "through", shown, ("row", (a,) * 4000 + (ra,) * 4000)), True)
+        self.assertEqual(refused(2, "through", shown, ("row", (a,) * 4001 + (ra,) * 4001)), "row")
         self.assertEqual(refused(3, "through", beginning(3, "through"), ("row", LONG + back_row(3, LONG))), "row")
         rest = ((((1, 1), (0, 1)) * 3000, 0), ((), 1))
         forms = ((((1, 1), (0, 1)), 0), ((), 1))
