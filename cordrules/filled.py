@@ -22,17 +22,18 @@ def all_tables(many, custom):
 
 def tables_keeping(many, custom):
     """Likewise, where so many can be listed."""
+    return tuple([table for table in tables_to_ask(many, custom) if does_keep(table, custom)])
+
+
+def tables_to_ask(many, custom):
+    """The tables of so many colours, ascending; where the custom asks for "back", those that keep it."""
     colours = list(range(many))
     if custom == "any":
         squares = tuples_of(tuples_of(colours, many), many)
-        return tuple([("table", on, off) for on in squares for off in squares])
-    tables = []
+        return [("table", on, off) for on in squares for off in squares]
     # By "back" each line of ON is a permutation, and OFF follows from ON.
-    for on in tuples_of(list(permutations(colours)), many):
-        table = ("table", on, tuple([inverse_of(line) for line in on]))
-        if does_keep(table, custom):
-            tables.append(table)
-    return tuple(tables)
+    squares = tuples_of(list(permutations(colours)), many)
+    return [("table", on, tuple([inverse_of(line) for line in on])) for on in squares]
 
 
 def tuples_of(things, many):

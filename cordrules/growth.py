@@ -76,6 +76,20 @@ class Growth:
             raise TooGreat(MOST_KINDS)
         return number
 
+    def need_all(self):
+        """Finds all kinds, of which there must not be too many."""
+        while self.can_grow() and len(self.found) <= MOST_KINDS:
+            self.grow()
+        if len(self.found) > MOST_KINDS:
+            raise TooGreat(MOST_KINDS)
+
+    def least_rows(self):
+        """The least rows of all kinds that were found."""
+        rows = [()]
+        for number, crossing in self.made[1:]:
+            rows.append(rows[number] + (crossing,))
+        return tuple(rows)
+
     def least_row(self, number):
         """The least row of a kind."""
         while number >= len(self.found) and self.can_grow():

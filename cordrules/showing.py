@@ -8,18 +8,18 @@ from cordrules.spelled import next_off, spelled_along, spelled_beginning, spelle
 from cordrules.states import states_of
 from cordrules.working import work_row
 
-# The words of the papers by each custom, and how many things stand behind a word.
+# The words of the papers by each custom, and how many things stand behind a word of any paper.
 WORDS = {
     "any": ("row", "closed"), "through": ("row", "rest"), "began": ("row", "pair"), "twice": ("row", "pair"),
     "never": ("row",)}
-BEHIND = {"row": 1, "closed": 1, "rest": 2, "pair": 2}
+BEHIND = {"row": 1, "closed": 1, "rest": 2, "pair": 2, "rows": 2}
 MOST_IN_PAPER = 10000
 MOST_SPELLED = 6000
 
 
-def has_paper_form(custom, value):
-    """Whether a value is a tuple of a word of a paper by the custom and as many things as belong to it."""
-    if not isinstance(value, tuple) or not value or not is_one_of(value[0], WORDS[custom]):
+def has_paper_form(words, value):
+    """Whether a value is a tuple of one of the words and as many things as belong to it."""
+    if not isinstance(value, tuple) or not value or not is_one_of(value[0], words):
         return False
     return len(value) == BEHIND[value[0]] + 1
 

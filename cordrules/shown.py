@@ -98,7 +98,7 @@ def paper_by_counts(cords, custom, forms):
 def check_shown(cords, custom, forms, paper):
     """Whether a paper shows that the forms are shown, not that they are not."""
     need_shown(cords, custom, forms)
-    if not has_paper_form(custom, paper):
+    if not has_paper_form(WORDS[custom], paper):
         raise BadPaper("form")
     if not does_paper_show(cords, custom, forms, paper):
         raise BadPaper(paper[0])

@@ -4,7 +4,7 @@ from itertools import permutations
 
 from cordrules.apart import own_letters
 from cordrules.checks import need_cords_and_rows, need_custom
-from cordrules.colourings import all_colourings, both_doings
+from cordrules.colourings import all_colourings, both_doings, need_few_colourings
 from cordrules.errors import TooGreat
 from cordrules.filled import MOST_ALL, MOST_ALL_BY_ANY, tables_keeping, tuples_of
 from cordrules.parting import first_unlike
@@ -20,11 +20,7 @@ def need_parted(cords, row, other, rule):
     """Refuses what is wrong, and tables with too many colourings."""
     need_cords_and_rows(cords, row, other)
     need_table(rule)
-    many = 1
-    for _ in range(cords):
-        many = many * len(rule[1])
-    if many > MOST_COLOURINGS:
-        raise TooGreat(MOST_COLOURINGS)
+    need_few_colourings(cords, rule, MOST_COLOURINGS)
 
 
 def first_parting(cords, row, other, rule):

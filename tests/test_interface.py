@@ -60,7 +60,24 @@ INTERFACE = {
         least_alike(cords, row, custom, book)""",
     "plain": """rule_numbers(rule) does_rule_follow(rule, book) plain_rule(custom, book) plain_book(custom, book)
         follow_paper(cords, row, other, custom, book) check_follow(cords, row, other, custom, book, paper)
-        turns_count(custom, book, modulus, many)"""}
+        turns_count(custom, book, modulus, many)""",
+    "doings": """doing_of(cords, row, rule) what_parts(cords, row, other, rule) kinds_over(cords, rule)
+        least_over(cords, row, rule) row_of_doing(cords, rule, doing) doing_paper(cords, rule, doing)
+        check_doing(cords, rule, doing, paper) again_and_again(cords, row, rule)""",
+    "beside": """sees_as_much(cords, rule, far_rule) beside_paper(cords, rule, far_rule)
+        check_beside(cords, rule, far_rule, paper) first_mistake(cords, rule, custom)""",
+    "brought": """brought_from(cords, rule, colours) row_brought(cords, rule, colours, goal)
+        brought_paper(cords, rule, colours, goal) check_brought(cords, rule, colours, goal, paper)
+        rounds_of(cords, rule) still_ones(cords, rule) rows_brought(cords, rule, colours, goal, many)""",
+    "gaps": """need_gapped(gapped) gaps_of(many) does_fill(gapped, rule) fillings(gapped, custom)
+        sure_table(gapped, custom) with_item(gapped, side, over, under, value)""",
+    "sights": """need_seen(many, seen) first_against(rule, seen) does_bear(rule, seen) fitting(gapped, custom, seen)
+        needless(gapped, custom, seen) sure_colours(gapped, custom, seen, cords, row, colours)
+        possible_sights(gapped, custom, seen, cords, row, colours)""",
+    "closing": """nodes_behind(names, custom, seen, cords, row, colours) one_lots(names, custom, seen)
+        is_borne(names, custom, seen) bearing_table(names, custom, seen)
+        sure_names(names, custom, seen, cords, row, colours)
+        same_places(names, custom, seen, cords, row, colours)"""}
 # By modules the classes: what they are made of, their methods, their fields.
 CLASSES = {
     "kinds": {"Kinds": (
