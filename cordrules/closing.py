@@ -49,7 +49,7 @@ def nodes_behind(names, custom, seen, cords, row, colours):
 def one_lots(names, custom, seen):
     """The lots of nodes that are one, ascending."""
     need_names_and_seen(names, custom, seen)
-    return closed_ones(names, custom, seen).lots()
+    return closed_ones(names, custom, seen).all_lots()
 
 
 def is_borne(names, custom, seen):

@@ -77,7 +77,7 @@ class Ones:
         """The least node of each lot of nodes that are one, ascending."""
         return sorted(set(self.lead))
 
-    def lots(self):
+    def all_lots(self):
         """The lots of nodes that are one, ascending."""
         return lots_by_lead(self.lead)
 

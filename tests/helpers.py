@@ -46,6 +46,24 @@ def some_rows(cords, many, length, seed=1):
     return found
 
 
+def first_with_forms(cords, form_of, most):
+    """The first rows, ascending, with their forms, going on to all rows as long as one with more than most."""
+    firsts = [()]
+    seen = {form_of(()): True}
+    level = [()]
+    while level and len(firsts) <= most:
+        longer = []
+        for row in level:
+            for crossing in crossings(cords):
+                far = row + (crossing,)
+                if form_of(far) not in seen:
+                    seen[form_of(far)] = True
+                    longer.append(far)
+        firsts += longer
+        level = longer
+    return firsts
+
+
 def worked(things, row, change):
     """The things behind a row, straight from the words of the document."""
     things = list(things)

@@ -63,8 +63,8 @@ def does_fit(rule, gapped, seen):
 def wrong_gapped():
     """What is no gapped table, with the part that is wrong."""
     square = ((0, None), (1, 0))
-    whole = [None, True, 0, "table", "", [], {}, NOTHING, (), ("table",), ("table", square), ("table", square, square, 0),
-             ["table", square, square], ("acts", square, square), ("turns", 2, (0,)), ("acts", ((0, 1),)),
+    whole = [None, True, 0, "table", "", [], {}, NOTHING, (), ("table",), ("table", square), ("table", square, square,
+             0), ["table", square, square], ("acts", square, square), ("turns", 2, (0,)), ("acts", ((0, 1),)),
              (None, square, square), (["table"], square, square), (True, square, square)]
     wrong = [(value, BadRule, None) for value in whole]
     squares = [None, True, 2, "on", (), [], list(square), ((0, None),), ((0, 1), (None,)), ((0, 1), (None, 2)),

@@ -155,9 +155,9 @@ class TestMistakes(unittest.TestCase):
 
     def test_none(self):
         marks = as_table(("turns", 2, (1, 0)))
-        for cords, rule, custom, many in ((2, COPY, "never", None), (2, still(2), "never", 2), (3, still(2), "never", 6),
-                                          (3, still(1), "never", 1), (2, marks, "twice", 4), (3, marks, "twice", None),
-                                          (5, still(3), "never", 120), (5, still(2), "never", 120)):
+        for cords, rule, custom, many in ((2, COPY, "never", None), (2, still(2), "never", 2), (3, still(2), "never",
+                                          6), (3, still(1), "never", 1), (2, marks, "twice", 4), (3, marks, "twice",
+                                          None), (5, still(3), "never", 120), (5, still(2), "never", 120)):
             if not keeps(rule, custom):
                 self.assertRaises(BadCustom, first_mistake, cords, rule, custom)
                 continue

@@ -123,7 +123,8 @@ class TestRefusals(unittest.TestCase):
     def test_arguments(self):
         names, customs = ("names", 2, wrong_numbers(1, 12)), ("custom", "back", wrong_customs(("any", "back")))
         seen = ("seen", SURE[:1], wrong_seen(2) + [(long_seen(2, 2, 31)[:2], BadSeen, "many")])
-        asked = [("cords", 2, wrong_cords()), ("row", (a,), wrong_rows(2)), ("colours", (0, 1), wrong_table_colours(2, 2))]
+        asked = [("cords", 2, wrong_cords()), ("row", (a,), wrong_rows(2)),
+                 ("colours", (0, 1), wrong_table_colours(2, 2))]
         for function in (one_lots, is_borne, bearing_table):
             try_refusals(self, function, names, customs, seen)
         for function in (nodes_behind, sure_names, same_places):

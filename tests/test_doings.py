@@ -63,7 +63,8 @@ class TestDoings(unittest.TestCase):
             for function in (row_of_doing, doing_paper):
                 try_great(self, 256, function, cords, still(many + 1), None)
             try_great(self, 256, check_doing, cords, still(many + 1), None, None)
-        for function, arguments in ((doing_of, {}), (again_and_again, {}), (least_over, {}), (what_parts, {"other": ()})):
+        for function, arguments in ((doing_of, {}), (again_and_again, {}), (least_over, {}), (what_parts,
+            {"other": ()})):
             try_one(self, function, {"cords": 2, "row": (None,), **arguments, "rule": great}, None, BadRow, 0)
 
 

@@ -12,7 +12,7 @@ from cordrules.rows import order_of
 from cordrules.rules import run_colours
 from cordrules.steps import least_row
 from helpers import (
-    crossings, rows_to, some_rows, try_great, try_refusals, wrong_books, wrong_cords, wrong_customs, wrong_rows)
+    first_with_forms, rows_to, some_rows, try_great, try_refusals, wrong_books, wrong_cords, wrong_customs, wrong_rows)
 
 a, b, c, ra, rb = ("left", 0), ("left", 1), ("left", 2), ("right", 0), ("right", 1)
 BOOK_CUSTOMS = ("began", "twice", "never")
@@ -114,7 +114,8 @@ class TestKinds(unittest.TestCase):
                     self.assertIsNone(total)
                     continue
                 if total <= 1600:
-                    self.assertEqual(len(all_kinds(cords, custom, book)), total, (cords, custom, book))
+                    found = first_with_forms(cords, lambda row: book_form(cords, row, custom, book), 1600)
+                    self.assertEqual(len(found), total, (cords, custom, book))
         for cords in (2, 3, 4, 5):
             pairs = cords * (cords - 1) // 2
             self.assertEqual(book_kinds(cords, "never", ()), factorial(cords))
@@ -148,21 +149,7 @@ class TestKinds(unittest.TestCase):
         row = least_alike(5, some_rows(5, 1, 60)[0], "never", ())
         self.assertEqual(row, least_row(5, some_rows(5, 1, 60)[0], "never"))
         # Just the first two thousand rows are told: those that are ahead are gone through here.
-        firsts = {(): True}
-        seen = {book_form(4, (), "began", ()): True}
-        level = [()]
-        while len(firsts) <= 2000:
-            longer = []
-            for row in level:
-                for crossing in crossings(4):
-                    far = row + (crossing,)
-                    form = book_form(4, far, "began", ())
-                    if form not in seen:
-                        seen[form] = True
-                        firsts[far] = True
-                        longer.append(far)
-            level = longer
-        told = list(firsts)
+        told = first_with_forms(4, lambda row: book_form(4, row, "began", ()), 2000)
         for number in (1000, 1998, 1999):
             self.assertEqual(least_alike(4, told[number], "began", ()), told[number])
         for number in (2000, len(told) - 1):
@@ -194,22 +181,6 @@ class TestKinds(unittest.TestCase):
         try_refusals(self, does_follow, cords, row, other, custom, book)
         try_refusals(self, book_kinds, cords, custom, book)
         self.assertEqual(plain_book("began", ()), ())
-
-
-def all_kinds(cords, custom, book):
-    """The book forms of all rows, going on from the first row of each."""
-    seen = {book_form(cords, (), custom, book): True}
-    level = [()]
-    while level:
-        longer = []
-        for row in level:
-            for crossing in crossings(cords):
-                form = book_form(cords, row + (crossing,), custom, book)
-                if form not in seen:
-                    seen[form] = True
-                    longer.append(row + (crossing,))
-        level = longer
-    return seen
 
 
 if __name__ == "__main__":

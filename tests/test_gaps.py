@@ -77,7 +77,8 @@ class TestRefusals(unittest.TestCase):
         try_refusals(self, does_fill, gapped, ("rule", ("turns", 2, (0,)), wrong_told_rules()))
         try_refusals(self, fillings, gapped, customs)
         try_refusals(self, sure_table, gapped, customs)
-        sides = [(value, BadName, VERY) for value in (None, True, 0, "", "Left", "on", ("left",), ["left"], {}, NOTHING)]
+        sides = [(value, BadName, VERY) for value in (None, True, 0, "", "Left", "on", ("left",), ["left"], {},
+        NOTHING)]
         colours = [[(value, BadColours, number) for value in wrong_colour_things(2)] for number in range(3)]
         try_refusals(self, with_item, gapped, ("side", "left", sides),
                      ("over", 0, colours[0] + [(None, BadColours, 0)]),

@@ -4,6 +4,8 @@ import importlib
 import inspect
 import unittest
 
+from cordrules.live import Plait
+
 INTERFACE = {
     "rows": """order_of(cords, row) order_on_way(cords, row) way_of(cords, row, cord) back_row(cords, row)
         mirrored(cords, row) turned_over(cords, row) beside(cords, row, far_cords, far_row)
@@ -77,12 +79,32 @@ INTERFACE = {
     "closing": """nodes_behind(names, custom, seen, cords, row, colours) one_lots(names, custom, seen)
         is_borne(names, custom, seen) bearing_table(names, custom, seen)
         sure_names(names, custom, seen, cords, row, colours)
-        same_places(names, custom, seen, cords, row, colours)"""}
-# By modules the classes: what they are made of, their methods, their fields.
+        same_places(names, custom, seen, cords, row, colours)""",
+    "papers": """sure_paper(names, custom, seen, cords, row, colours, place, name)
+        check_sure(names, custom, seen, cords, row, colours, place, name, paper)
+        against_paper(names, custom, seen) check_against(names, custom, seen, paper)""",
+    "trials": """need_menu(many, menu) lots_by(gapped, custom, seen, menu) fewest_trials(gapped, custom, seen, menu)
+        best_trial(gapped, custom, seen, menu) best_plan(gapped, custom, seen, menu)
+        led_by(gapped, custom, seen, menu, rule) need_plan(gapped, custom, seen, menu, plan)
+        does_settle(gapped, custom, seen, menu, plan) depth_of(plan) least_lot(gapped, custom, seen, menu)
+        needed_trials(gapped, custom, seen, menu) idle_trials(gapped, custom, seen, menu)""",
+    "texts": """row_text(cords, row) forms_text(cords, custom, forms) rule_text(rule) book_text(book)
+        read_row(cords, text) read_forms(cords, text) read_rule(text) read_book(text)""",
+    "sheets": "sheet_told(text) judged(text)",
+    "live": "under(manager, deed)"}
+# By modules the classes: what they are made of, their methods, their fields, their properties.
 CLASSES = {
     "kinds": {"Kinds": (
         "Kinds(cords, custom)", "number_of(row) row_of(number) next_of(number) many_shortest(number)",
-        {"cords": 3, "custom": "twice"})}}
+        {"cords": 3, "custom": "twice"}, "")},
+    "live": {"Plait": (
+        "Plait(cords, custom)", """order() cross(crossing) work(row) undo(*, many=1) again(*, many=1) mark(name)
+        is_home(name) forms() colours(rule, colours) copy() trial() __len__() __eq__(other)""",
+        {"cords": 3, "custom": "twice"}, "row marks")},
+    "guide": {"Guide": (
+        "Guide(plait, book, goal)", "is_there() way_left() left() due() go()",
+        {"plait": Plait(2, "began"), "book": (), "goal": (("left", 0),)}, "plait book goal")},
+    "desk": {"Desk": ("Desk()", "say(line)", {}, "plait guide")}}
 
 
 def listed(text):
@@ -94,19 +116,21 @@ def listed(text):
 
 
 def plain_arguments(test, function, arguments):
-    """Whether a function takes just these arguments, by position or by name."""
+    """Whether a function takes just these arguments, by position or by name, those behind a star by name alone."""
     parameters = inspect.signature(function).parameters.values()
-    test.assertEqual([one.name for one in parameters], arguments, function)
-    for one in parameters:
-        test.assertEqual(one.kind, one.POSITIONAL_OR_KEYWORD)
-        test.assertIs(one.default, one.empty)
+    by_name = arguments[arguments.index("*") + 1:] if "*" in arguments else []
+    names = [word for word in arguments if word != "*"]
+    test.assertEqual([one.name for one in parameters], [word.split("=")[0] for word in names], function)
+    for one, word in zip(parameters, names):
+        test.assertEqual(one.kind, one.KEYWORD_ONLY if word in by_name else one.POSITIONAL_OR_KEYWORD)
+        test.assertEqual(one.default, int(word.split("=")[1]) if "=" in word else one.empty)
 
 
 class TestInterface(unittest.TestCase):
     def test_classes(self):
         for word, classes in CLASSES.items():
             module = importlib.import_module("cordrules." + word)
-            for name, (made, methods, fields) in classes.items():
+            for name, (made, methods, fields, properties) in classes.items():
                 cls = getattr(module, name)
                 self.assertEqual(cls.__module__, "cordrules." + word)
                 plain_arguments(self, cls, dict(listed(made))[name])
@@ -116,6 +140,10 @@ class TestInterface(unittest.TestCase):
                     plain_arguments(self, getattr(one, method), arguments)
                 for field, value in fields.items():
                     self.assertIs(getattr(one, field), value)
+                for word_of_one in properties.split():
+                    self.assertIsInstance(vars(cls)[word_of_one], property)
+                    with self.assertRaises(AttributeError):
+                        setattr(one, word_of_one, None)
 
     def test_names_and_arguments(self):
         for word, text in INTERFACE.items():

@@ -17,7 +17,7 @@ BUILTINS = """len range enumerate zip min max sum abs sorted reversed int str bo
 METHODS = """append clear copy count endswith extend find get index insert isalnum isalpha isdigit islower isspace
     isupper items join keys ljust lower lstrip partition pop remove replace reverse rfind rjust rpartition rsplit
     rstrip setdefault split splitlines startswith strip update upper values zfill bit_length add discard
-    swapcase""".split()
+    swapcase isascii""".split()
 NOWHERE = """register mro elements open input law version_info with_traceback add_note type typing
     typing_extensions enum Enum IntEnum StrEnum Flag IntFlag Generic Protocol ABC ABCMeta namedtuple NamedTuple
     TypedDict TYPE_CHECKING abstractmethod""".split()
@@ -25,7 +25,8 @@ NO_NAMES = """attrgetter breakpoint builtins compile copyright credits delattr d
     importlib license locals methodcaller os quit super vars sys map iter next""".split()
 STATEMENTS = (
     ast.Assign, ast.AugAssign, ast.If, ast.While, ast.For, ast.Return, ast.Break, ast.Continue, ast.Pass, ast.Raise,
-    ast.Assert, ast.Delete, ast.Try, ast.Expr, ast.FunctionDef, ast.ClassDef, ast.ImportFrom)
+    ast.Assert, ast.Delete, ast.Try, ast.Expr, ast.FunctionDef, ast.ClassDef, ast.ImportFrom, ast.With)
+DUNDERS = ("__init__", "__eq__", "__len__", "__enter__", "__exit__")
 
 
 def trees():
@@ -101,7 +102,7 @@ class TestLanguage(unittest.TestCase):
                 self.assertFalse(name in dir(builtins), (path, name))
                 self.assertNotIn(name, NO_NAMES + NOWHERE, path)
                 self.assertNotIn(name, imports, path)
-                self.assertTrue(re.fullmatch(r"_|_?[A-Za-z][A-Za-z0-9_]*|__init__", name) or name == "__init__", name)
+                self.assertTrue(re.fullmatch(r"_|_?[A-Za-z][A-Za-z0-9_]*", name) or name in DUNDERS, name)
             for function in functions:
                 for name in names_bound(ast.Module(function.body, [])):
                     self.assertNotIn(name, classes, path)
@@ -121,7 +122,9 @@ class TestLanguage(unittest.TestCase):
                 where = (path.name, getattr(node, "lineno", 0))
                 if isinstance(node, ast.stmt):
                     self.assertIsInstance(node, STATEMENTS, where)
-                self.assertNotIsInstance(node, (ast.Div, ast.Yield, ast.YieldFrom, ast.NamedExpr, ast.Await), where)
+                # A class has an __eq__: any, all and the like take lists, not generator expressions.
+                self.assertNotIsInstance(
+                    node, (ast.Div, ast.Yield, ast.YieldFrom, ast.NamedExpr, ast.Await, ast.GeneratorExp), where)
                 if isinstance(node, ast.Constant):
                     self.assertNotIsInstance(node.value, (float, complex, bytes), where)
                     self.assertFalse(isinstance(node.value, str) and "%" in node.value, where)
@@ -133,7 +136,7 @@ class TestLanguage(unittest.TestCase):
                 if isinstance(node, ast.Call) and isinstance(node.func, ast.Name) and node.func.id == "product":
                     self.assertFalse(node.keywords, where)
                 if isinstance(node, ast.FunctionDef):
-                    self.assertEqual(node.decorator_list, [], where)
+                    self.assertIn([one.id for one in node.decorator_list], ([], ["property"]), where)
 
     def test_attributes_and_methods(self):
         taken = {name for value in ("", b"", 0, [], (), {}, set()) for name in dir(value)}
@@ -146,7 +149,36 @@ class TestLanguage(unittest.TestCase):
                               if isinstance(one, ast.Attribute) and isinstance(one.ctx, ast.Store)}
                     self.assertFalse(methods & stored, (path.name, node.name))
                     self.assertFalse((stored - set(free)) & taken, (path.name, node.name))
-                    self.assertFalse({name for name in methods if name != "__init__"} & taken, (path.name, node.name))
+                    self.assertFalse(methods & taken - set(DUNDERS + ("copy",)), (path.name, node.name))
+
+    def test_no_name_is_both(self):
+        stored, methods = set(), set()
+        for _, _, tree in trees():
+            for node in ast.walk(tree):
+                if isinstance(node, ast.Attribute) and isinstance(node.ctx, ast.Store):
+                    stored.add(node.attr)
+                if isinstance(node, ast.ClassDef):
+                    methods |= {one.name for one in node.body if isinstance(one, ast.FunctionDef)}
+        self.assertFalse(stored & methods)
+
+    def test_properties(self):
+        stored, methods, properties = set(), set(), []
+        for path, _, tree in trees():
+            for node in ast.walk(tree):
+                if isinstance(node, ast.Attribute) and isinstance(node.ctx, ast.Store):
+                    stored.add(node.attr)
+            for node in [one for part in tree.body if isinstance(part, ast.ClassDef) for one in part.body]:
+                if isinstance(node, ast.FunctionDef) and node.decorator_list:
+                    properties.append(node)
+                elif isinstance(node, ast.FunctionDef):
+                    methods.add(node.name)
+        self.assertEqual(sorted(node.name for node in properties),
+                         ["book", "goal", "guide", "marks", "plait", "plait", "row"])
+        for node in properties:
+            self.assertNotIn(node.name, stored | methods)
+            rows = [one for one in node.body if not isinstance(one, ast.Expr)]
+            self.assertEqual(len(rows), 1, node.name)
+            self.assertIsInstance(rows[0].value, ast.Attribute)
 
     def test_imports_are_used(self):
         for path, _, tree in trees():

@@ -8,9 +8,10 @@ from cordrules.rules import colours_of, run_colours
 from cordrules.sights import (
     does_bear, first_against, fitting, needless, need_seen, possible_sights, sure_colours)
 from helpers import (
-    CUSTOMS, rows_to, some_rows, try_great, try_one, try_refusals, wrong_cords, wrong_customs, wrong_numbers, wrong_rows,
-    wrong_table_colours, wrong_told_rules)
-from looking import EMPTY, PART, a, b, does_fit, gapped_from, gaps, ra, rb, shown_by, some_seen, wrong_gapped, wrong_seen
+    CUSTOMS, rows_to, some_rows, try_great, try_one, try_refusals, wrong_cords, wrong_customs, wrong_numbers,
+    wrong_rows, wrong_table_colours, wrong_told_rules)
+from looking import (
+    EMPTY, PART, a, b, does_fit, gapped_from, gaps, ra, rb, shown_by, some_seen, wrong_gapped, wrong_seen)
 
 THING = (2, (a, ra), (0, 1), (None, 1))
 
@@ -105,11 +106,13 @@ class TestRefusals(unittest.TestCase):
         try_refusals(self, need_seen, ("many", 2, wrong_numbers(1, 200)), seen)
         try_refusals(self, fitting, gapped, customs, seen)
         try_refusals(self, needless, gapped, customs, seen)
-        asked = [("cords", 2, wrong_cords()), ("row", (a,), wrong_rows(2)), ("colours", (0, 1), wrong_table_colours(2, 2))]
+        asked = [("cords", 2, wrong_cords()), ("row", (a,), wrong_rows(2)),
+                 ("colours", (0, 1), wrong_table_colours(2, 2))]
         try_refusals(self, sure_colours, gapped, customs, seen, *asked)
         try_refusals(self, possible_sights, gapped, customs, seen, *asked)
         for function in (first_against, does_bear):
-            try_refusals(self, function, ("rule", ("table", ((0, 1), (1, 0)), ((0, 1), (1, 0))), wrong_told_rules()), seen)
+            try_refusals(self, function, ("rule", ("table", ((0, 1), (1, 0)), ((0, 1), (1, 0))), wrong_told_rules()),
+                         seen)
 
     def test_colours_of_other_rules(self):
         rule = ("turns", 3, (1, 2))
