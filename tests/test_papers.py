@@ -192,8 +192,8 @@ class TestRefusals(unittest.TestCase):
     def test_arguments(self):
         names, customs = ("names", 2, wrong_numbers(1, 12)), ("custom", "back", wrong_customs(("any", "back")))
         seen = ("seen", SURE[:1], wrong_seen(2) + [(long_seen(2, 2, 31), BadSeen, "many")])
-        asked = [("cords", 2, wrong_cords()), ("row", (a,), wrong_rows(2)), ("colours", (0, 1), wrong_table_colours(2,
-                 2)), ("place", 0, wrong_cord(2)), ("name", 1, wrong_cord(2))]
+        asked = [("cords", 2, wrong_cords()), ("row", (a,), wrong_rows(2)),
+                 ("colours", (0, 1), wrong_table_colours(2, 2)), ("place", 0, wrong_cord(2)), ("name", 1, wrong_cord(2))]
         try_refusals(self, against_paper, names, customs, seen)
         try_refusals(self, sure_paper, names, customs, seen, *asked)
         paper = sure_paper(2, "back", SURE[:1], 2, (a,), (0, 1), 0, 1)
