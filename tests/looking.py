@@ -94,6 +94,7 @@ def wrong_trials(many):
         things.append((2, (a,), colours))
     for colour in wrong_colour_things(many):
         things += [(2, (a,), (colour, 0)), (2, (a,), (0, colour))]
+    things += [(1, (), (0,)), (6, (), (0,) * 6), (0, (), ()), (True, (), (0,))]
     return things + [(3, (a,), (0, 0)), (3, (("left", 2),), (0, 0, 0)), (2, (b,), (0, 0))]
 
 
@@ -104,7 +105,9 @@ def wrong_seen(many):
     wrong = [(value, BadSeen, None) for value in whole]
     things = []
     for trial in wrong_trials(many):
-        things.append(trial + ((0, None),) if isinstance(trial, tuple) and len(trial) == 3 else trial)
+        if isinstance(trial, tuple) and len(trial) == 3:
+            trial += ((None,) * len(trial[2]) if isinstance(trial[2], tuple) else (0, None),)
+        things.append(trial)
     things += [good[:3], good + (0,), list(good), (3, (a,), (0, 0, 0), (0, 0))]
     for sight in [None, True, 0, "", "00", [], [0, 0], (), (0,), (None,), (0, 0, 0), {}, NOTHING]:
         things.append(good[:3] + (sight,))

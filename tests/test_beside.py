@@ -8,12 +8,12 @@ from cordrules.errors import BadCustom, BadPaper, TooGreat
 from cordrules.filled import all_tables
 from cordrules.kinds import kinds_total
 from cordrules.doings import kinds_over
-from cordrules.likeness import are_alike
+from cordrules.likeness import are_alike, forms_of
 from cordrules.partings import all_partings, table_of_lots
 from cordrules.rules import as_table
 from cordrules.tables import closed_lots, pair_table, table_within
 from helpers import (
-    CUSTOMS, rows_to, try_great, try_one, try_refusals, wrong_cords, wrong_customs, wrong_tables)
+    CUSTOMS, first_with_forms, rows_to, try_great, try_one, try_refusals, wrong_cords, wrong_customs, wrong_tables)
 from seeing import (
     COPY, JUST, MARKS, ONE_MORE, done, few_tables, mixed, rows_that_are_none, still, try_papers, turning, wild)
 
@@ -188,6 +188,20 @@ class TestMistakes(unittest.TestCase):
             self.assertEqual(done(cords, row, rule), done(cords, other, rule))
             self.assertFalse(are_alike(cords, row, other, custom))
         try_great(self, 2000, first_mistake, 4, mixed(4, 5), "back")
+
+    def test_the_last_of_the_first_rows(self):
+        # The row that is taken for another one is the last of the first 2,000 rows, or the next one behind them.
+        row, other = first_mistake(3, wild(3, 100848), "any")
+        firsts = first_with_forms(3, lambda row: forms_of(3, row, "any"), 2000)
+        self.assertEqual(firsts.index(other), 1999)
+        self.assertEqual(done(3, row, wild(3, 100848)), done(3, other, wild(3, 100848)))
+        for rule, custom in ((wild(5, 6895216), "any"), (mixed(13, 5824180), "back")):
+            try_great(self, 2000, first_mistake, 2, rule, custom)
+        rule = wild(5, 6895216)
+        firsts = first_with_forms(2, lambda row: forms_of(2, row, "any"), 2001)[:2001]
+        doings = [done(2, row, rule) for row in firsts]
+        self.assertEqual(len(set(doings[:2000])), 2000)
+        self.assertIn(doings[2000], doings[:2000])
 
     def test_refusals(self):
         try_refusals(self, first_mistake, ("cords", 2, wrong_cords()), ("rule", turning(2), wrong_tables()),

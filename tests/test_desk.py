@@ -14,11 +14,11 @@ a, b, ra, rb = ("left", 0), ("left", 1), ("right", 0), ("right", 1)
 WRONG = ("", " ", "?", "plait", "plait 3", "plait any 3", "plait 1 any", "plait 6 any", "plait 3 other", "plait 3 any ",
          "plait 3  any", " plait 3 any", "plait 03 any", "Plait 3 any", "plait 3 any any", "plait\n3 any", "row ",
          "row 1", "order -", "forms 0", "back 0", "back -1", "back 01", "back x", "back 1 1", "back ", "again 0",
-         "again +1", "back " + "9" * 1001, "mark", "mark A", "mark abcdefghi", "mark a b", "mark a1", "mark ", "home",
-         "home none there", "home zz", "alike", "alike ?", "alike L9", "alike - -", "book", "book ?", "book 2 - =",
-         "book none none", "book 2 L1 = -", "goal", "goal L9", "goal ?", "L9", "L0 ?", "L0  L0", "- -", "- L0", "l0",
-         "L0 -", "done", "yes", "no", "nothing", "say row", "mark a\n", "row\n", "left 1", "due 1", "go 1", "stop 1",
-         "copy", "trial")
+         "again +1", "back " + "9" * 1001, "back \u00b2", "plait \u0663 any", "mark", "mark A", "mark abcdefghi",
+         "mark a b", "mark a1", "mark ", "home", "home none there", "home zz", "alike", "alike ?", "alike L9",
+         "alike - -", "book", "book ?", "book 2 - =", "book none none", "book 2 L1 = -", "goal", "goal L9", "goal ?",
+         "L9", "L0 ?", "L0  L0", "- -", "- L0", "l0", "L0 -", "done", "yes", "no", "nothing", "say row", "mark a\n",
+         "row\n", "left 1", "due 1", "go 1", "stop 1", "copy", "trial")
 NO_STRINGS = (None, True, 0, 7, (), ("row",), ["row"], {}, b"row", NOTHING)
 
 

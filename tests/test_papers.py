@@ -108,6 +108,24 @@ class TestSure(unittest.TestCase):
             bent += [(good[0], (3, 4, why))]
         for steps in bent:
             self.assertEqual(word_of(check_sure, *told, ("steps", steps)), "steps", steps)
+        # All steps must follow, also those that are not needed.
+        for step in ((0, 1, ("seen", 0, 0)), (3, 1, ("seen", 0, 0)), (0, 2, ("seen", 0, 0)), (0, 1, ("seen", 0, 1)),
+                     (3, 0, ("deeds", 0, 1)), (0, 1, ("deeds", 1, 1)), (3, 4, ("deeds", None, 1)),
+                     (3, 4, ("deeds", False, 1)), (3, 4, ("deeds", -2, 1)), (3, 4, ("deeds", 2, 1)),
+                     (3, 4, ("deeds", 0, -1)), (3, 4, ("deeds", 0, True)), (3, 4, ("deeds", 0, 2))):
+            self.assertEqual(word_of(check_sure, *told, ("steps", good + (step,))), "steps", step)
+            self.assertEqual(word_of(check_sure, *told, ("steps", (step,) + good)), "steps", step)
+
+    def test_deeds_of_other_sides_and_nodes(self):
+        # Crossings 0 and 1 have unlike sides, 0 and 2 unlike nodes over, 0 and 3 unlike nodes under.
+        seen = ((2, (a,), (0, 1), (None, None)), (2, (ra,), (1, 0), (None, None)), (2, (a,), (1, 1), (None, None)),
+                (2, (a,), (0, 0), (None, None)), (2, (a,), (0, 1), (None, None)))
+        for number in (1, 2, 3):
+            for custom in ("any", "back"):
+                told = (2, custom, seen, 2, (), (0, 1), 0, 0)
+                steps = ((2, 2 + number, ("deeds", 0, number)),)
+                self.assertEqual(word_of(check_sure, *told, ("steps", steps)), "steps")
+                self.assertEqual(check_sure(*told, ("steps", ((2, 6, ("deeds", 0, 4)),))), "steps")
 
     def test_deeds_by_hand(self):
         # By "any" the sides must be the same; by "back" a crossing is taken back by the other side.
@@ -193,7 +211,8 @@ class TestRefusals(unittest.TestCase):
         names, customs = ("names", 2, wrong_numbers(1, 12)), ("custom", "back", wrong_customs(("any", "back")))
         seen = ("seen", SURE[:1], wrong_seen(2) + [(long_seen(2, 2, 31), BadSeen, "many")])
         asked = [("cords", 2, wrong_cords()), ("row", (a,), wrong_rows(2)),
-                 ("colours", (0, 1), wrong_table_colours(2, 2)), ("place", 0, wrong_cord(2)), ("name", 1, wrong_cord(2))]
+                 ("colours", (0, 1), wrong_table_colours(2, 2)), ("place", 0, wrong_cord(2)), ("name", 1,
+                 wrong_cord(2))]
         try_refusals(self, against_paper, names, customs, seen)
         try_refusals(self, sure_paper, names, customs, seen, *asked)
         paper = sure_paper(2, "back", SURE[:1], 2, (a,), (0, 1), 0, 1)

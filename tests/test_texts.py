@@ -86,6 +86,66 @@ def bend(test, function, arguments, text, some=1):
             refused(test, function, arguments, " ".join(words[:at] + [words[at] + "\n"] + words[at + 1:]), at)
 
 
+def word_told(function, arguments, words):
+    """The word that is told of words that are refused, None if they are read."""
+    try:
+        function(*arguments, " ".join(words))
+    except BadWords as caught:
+        return caught.word
+    except BadForm:
+        return None
+    return None
+
+
+def leave_out(test, function, arguments, text, write):
+    """Tries a text without each of its words, and with each of them twice: what is told must stand by itself."""
+    words = text.split(" ")
+    for at in range(len(words)):
+        for bent in (words[:at] + words[at + 1:], words[:at + 1] + words[at:]):
+            wrong = word_told(function, arguments, bent)
+            if wrong is None:
+                if write is not None:
+                    test.assertEqual(write(function(*arguments, " ".join(bent))), " ".join(bent))
+                continue
+            # The words ahead of it can stand, as if only further words lacked; it cannot.
+            test.assertTrue(at <= wrong <= len(bent))
+            if wrong > 0:
+                test.assertIn(word_told(function, arguments, bent[:wrong]), (None, wrong))
+            if wrong < len(bent):
+                test.assertEqual(word_told(function, arguments, bent[:wrong + 1]), wrong)
+
+
+class TestLeftOut(unittest.TestCase):
+    def test_all_sorts(self):
+        for cords in (2, 4):
+            for row in some_rows(cords, 4, 5) + [()]:
+                leave_out(self, read_row, (cords,), row_text(cords, row), lambda read, cords=cords: row_text(cords,
+                read))
+        for cords, custom, forms in list(some_forms())[::4]:
+            text = forms_text(cords, custom, forms)
+            if len(text) < 300:
+                leave_out(self, read_forms, (cords,), text, None)
+        for rule in list(some_rules())[::3]:
+            if len(rule_text(rule)) < 300:
+                leave_out(self, read_rule, (), rule_text(rule), rule_text)
+        for book in list(some_books())[:3]:
+            leave_out(self, read_book, (), book_text(book), book_text)
+
+    def test_by_hand(self):
+        for text, word in (("table 2 / 0 / 1 0 / 0 0 / 1 1", 4), ("table 2 0 1 / 1 0 / 0 0 / 1 1", 2),
+                           ("2 / 0 1 / 1 0 / 0 0 / 1 1", 0), ("table / 0 1 / 1 0 / 0 0 / 1 1", 1),
+                           ("table 2 / 0 1 / 1 0 / 0 0", 11), ("acts 3 / 1 2 / 0 1 2", 5), ("acts 3 / 1 2 0 0 1 2", 6),
+                           ("acts / 1 2 0", 1), ("turns 5", 2), ("5 1 0", 0), ("turns 1", 2)):
+            refused(self, read_rule, (), text, word)
+        for text, word in (("on c0 c1 / c0", 0), ("any on c0 c1 / c0", 1), ("any / c0 c1 / c0", 3),
+                           ("any / on c1 / c0", 4), ("any / on c0 / c0", 4), ("any / on c0 c1 c0", 5),
+                           ("any / on c0 c1 /", 6), ("any / / c0", 2), ("any / on on c0 c1 / c0", 6)):
+            refused(self, read_forms, (2,), text, word)
+        for text, word in (("L0 R1 = - / 2 - = R0", 0), ("3 L0 R1 - / 2 - = R0", 3), ("3 L0 R1 = / 2 - = R0", 4),
+                           ("3 L0 R1 = - 2 - = R0", 5), ("3 L0 R1 = - / - = R0", 6), ("3 = - / 2 - = R0", 1)):
+            refused(self, read_book, (), text, word)
+
+
 class TestRows(unittest.TestCase):
     def test_there_and_back(self):
         for cords in (2, 3, 5):
@@ -194,8 +254,25 @@ class TestForms(unittest.TestCase):
                            ("twice / 1 1 c0 / 0 1", 8), ("began / -0 0 c0", 2), ("began / 0 00 c0", 3),
                            ("began / 1 1 1", 4), ("Never / c0 / c1", 0), ("never c0 c1", 1), ("never / c0 c1", 3),
                            ("never / c0 / c1 /", 5), ("never / c0 / c1 / c0", 5), ("other / c0", 0), ("any", 1),
+                           ("through / 00 c0", 2), ("through / 0 c0", 2),
                            ("through / 0+ 1- 1+ c0", 4)):
             refused(self, read_forms, (2,), text, word)
+        for word in [one for one in BENT if " " not in one]:
+            for custom, begun in (("any", ""), ("any", "on "), ("through", ""), ("through", "0+ "), ("never", ""),
+                                  ("began", ""), ("began", "0 "), ("twice", ""), ("twice", "0 1 ")):
+                if custom == "began" and word in ("-1",):
+                    continue
+                at = 2 + len(begun.split(" ")) - 1
+                refused(self, read_forms, (2,), custom + " / " + begun + word + " / c1", at)
+        for custom, text in (("never", "c{}"), ("any", "on c2 c{}"), ("began", "0 0 0 c{}"), ("through", "0+ c{}")):
+            for order, wrong in (((0, 1, 1), 2), ((0, 1, 0), 2), ((2, 2, 0), 1), ((1, 0, 2), None)):
+                places = [text.format(cord) for cord in order]
+                told = custom + " / " + " / ".join(places)
+                if wrong is None:
+                    self.assertEqual(read_forms(3, told)[0], custom)
+                else:
+                    size = len(places[0].split(" ")) + 1
+                    refused(self, read_forms, (3,), told, (wrong + 1) * size)
         self.assertEqual(read_forms(2, "through / 0+ 0+ 1- 0- c0 / c1")[1][0][0], ((0, 1), (0, 1), (1, -1), (0, -1)))
         longest = "through / " + "0+ " * 2000
         self.assertEqual(len(read_forms(2, longest + "c0 / c1")[1][0][0]), 2000)
@@ -275,8 +352,8 @@ class TestRules(unittest.TestCase):
                            ("acts 2 / 1", 4), ("acts 1" + " / 0" * 6, 12), ("acts 1" + " / 0" * 5 + " 0", 12),
                            ("turns", 1), ("turns 0", 1), ("turns 1000001", 1), ("turns 1000000", 2), ("turns 3", 2),
                            ("turns 3 3", 2), ("turns 3 -1", 2), ("turns 3 0 1 2 0 1 2", 7), ("turns 3 0 1 2 0 1 ", 7),
-                           ("turns 3 0 /", 3), ("turns 3 00", 2), ("other 3", 0), ("Table 1 / 0 / 0", 0),
-                           (" table 1 / 0 / 0", 0), ("acts 2 / 01 0", 3), ("turns 03 0", 1)):
+                           ("turns 3 0 /", 3), ("turns 3 00", 2), ("turns 3 0 3", 3), ("other 3", 0),
+                           ("Table 1 / 0 / 0", 0), (" table 1 / 0 / 0", 0), ("acts 2 / 01 0", 3), ("turns 03 0", 1)):
             refused(self, read_rule, (), text, word)
         for word in BENT:
             refused(self, read_rule, (), word, 0)
