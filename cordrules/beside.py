@@ -8,7 +8,7 @@ from cordrules.doings import are_paper_rows
 from cordrules.errors import BadCustom, BadPaper, TooGreat
 from cordrules.growth import MOST_KINDS, growth_of
 from cordrules.rules import need_table
-from cordrules.showing import has_paper_form, is_paper_row
+from cordrules.showing import is_paper_row, need_paper_form
 
 
 def need_both(cords, rule, far_rule):
@@ -41,8 +41,7 @@ def beside_paper(cords, rule, far_rule):
 def check_beside(cords, rule, far_rule, paper):
     """Whether a paper shows that the first table sees as much, not that it doesn't."""
     need_both(cords, rule, far_rule)
-    if not has_paper_form(("rows", "closed"), paper):
-        raise BadPaper("form")
+    need_paper_form(("rows", "closed"), paper)
     moves, far_moves = all_moves(cords, rule), all_moves(cords, far_rule)
     if paper[0] == "rows":
         is_good = are_seen_apart(cords, moves, far_moves, paper[1:])

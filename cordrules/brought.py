@@ -6,7 +6,7 @@ from cordrules.errors import BadPaper
 from cordrules.growth import Growth
 from cordrules.parting import are_colours
 from cordrules.rules import change_by, need_colours_of, need_table
-from cordrules.showing import has_paper_form, is_paper_row
+from cordrules.showing import is_paper_row, need_paper_form
 from cordrules.working import all_crossings, work_crossing, work_row
 
 MOST_TIMES = 60
@@ -67,8 +67,7 @@ def check_brought(cords, rule, colours, goal, paper):
     """Whether a paper shows that the goal is brought from the colouring, not that it isn't."""
     need_goal(cords, rule, colours, goal)
     need_few_colourings(cords, rule)
-    if not has_paper_form(("row", "closed"), paper):
-        raise BadPaper("form")
+    need_paper_form(("row", "closed"), paper)
     if paper[0] == "row":
         is_good = is_paper_row(cords, paper[1]) and work_row(colours, paper[1], change_by(rule)) == goal
     else:

@@ -8,7 +8,7 @@ from cordrules.colourings import (
 from cordrules.errors import BadColours, BadPaper
 from cordrules.parting import first_unlike
 from cordrules.rules import need_table
-from cordrules.showing import has_paper_form, is_paper_row
+from cordrules.showing import is_paper_row, need_paper_form
 
 
 def doing_of(cords, row, rule):
@@ -87,8 +87,7 @@ def doing_paper(cords, rule, doing):
 def check_doing(cords, rule, doing, paper):
     """Whether a paper shows that a row has the doing, not that none has."""
     need_doing(cords, rule, doing)
-    if not has_paper_form(("row", "closed"), paper):
-        raise BadPaper("form")
+    need_paper_form(("row", "closed"), paper)
     if paper[0] == "row":
         is_good = is_paper_row(cords, paper[1]) and doing_over(cords, paper[1], rule) == doing
     else:

@@ -19,7 +19,7 @@ def need_place_and_name(names, custom, seen, cords, row, colours, place, name):
     need_number(name, 0, names - 1)
 
 
-def need_paper_form(paper):
+def need_pair_form(paper):
     """Refuses what has not the form of a paper."""
     if not is_tuple_of(paper, 2) or not is_one_of(paper[0], ("steps", "table")):
         raise BadPaper("form")
@@ -40,7 +40,7 @@ def sure_paper(names, custom, seen, cords, row, colours, place, name):
 def check_sure(names, custom, seen, cords, row, colours, place, name, paper):
     """The first item of a paper that shows it."""
     need_place_and_name(names, custom, seen, cords, row, colours, place, name)
-    need_paper_form(paper)
+    need_pair_form(paper)
     need_borne(closed_ones(names, custom, seen))
     if paper[0] == "steps":
         ones = Ones(names, seen + ((cords, row, colours),))
@@ -65,7 +65,7 @@ def against_paper(names, custom, seen):
 def check_against(names, custom, seen, paper):
     """The first item of a paper that shows it."""
     need_names_and_seen(names, custom, seen)
-    need_paper_form(paper)
+    need_pair_form(paper)
     if paper[0] == "steps":
         ones = Ones(names, seen)
         is_good = are_steps(ones, custom, seen, paper[1]) and not ones.has_unlike_names()

@@ -1,6 +1,7 @@
 """What papers tell on whether forms are shown, and whether it is so."""
 
 from cordrules.checks import has_each_once, is_below, is_crossing, is_one_of, is_tuple_of
+from cordrules.errors import BadPaper
 from cordrules.forms import change_by_custom, forms_at_beginning
 from cordrules.letters import is_word
 from cordrules.pairs import is_wrong_pair
@@ -22,6 +23,12 @@ def has_paper_form(words, value):
     if not isinstance(value, tuple) or not value or not is_one_of(value[0], words):
         return False
     return len(value) == BEHIND[value[0]] + 1
+
+
+def need_paper_form(words, paper):
+    """Refuses what has not the form of a paper with one of the words."""
+    if not has_paper_form(words, paper):
+        raise BadPaper("form")
 
 
 def is_paper_row(cords, value):

@@ -6,7 +6,7 @@ from cordrules.forms import forms_along
 from cordrules.likeness import need_forms
 from cordrules.nodes import Nodes
 from cordrules.pairs import first_wrong_pair, numbers_of_forms, order_of_forms, places_between, row_by_numbers
-from cordrules.showing import WORDS, does_paper_show, forms_off, has_paper_form
+from cordrules.showing import WORDS, does_paper_show, forms_off, need_paper_form
 from cordrules.spelled import peel_spelled, spelled_beginning, spelled_forms, told_forms
 from cordrules.states import states_of
 from cordrules.terms import need_short
@@ -98,8 +98,7 @@ def paper_by_counts(cords, custom, forms):
 def check_shown(cords, custom, forms, paper):
     """Whether a paper shows that the forms are shown, not that they are not."""
     need_shown(cords, custom, forms)
-    if not has_paper_form(WORDS[custom], paper):
-        raise BadPaper("form")
+    need_paper_form(WORDS[custom], paper)
     if not does_paper_show(cords, custom, forms, paper):
         raise BadPaper(paper[0])
     return paper[0] == "row"
